@@ -1,0 +1,1 @@
+"""Orders whose neighbours may change places by what stands between them."""

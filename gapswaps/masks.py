@@ -1,0 +1,171 @@
+"""Sets of counts kept as whole numbers, bit by bit, and the sets with which orders begin.
+
+Where left is passed, it is a list with, for each number, the mask of ALL numbers that have to stand left
+of it; a begun set is a mask of numbers with which an order can begin in which they do.
+"""
+
+
+def mask_of(numbers):
+    """Return the mask of the numbers of a list."""
+    found = 0
+    for number in numbers:
+        found |= 1 << number
+    return found
+
+
+def numbers_in(mask):
+    """Return the list of the numbers of a mask, in order."""
+    found = []
+    while mask:
+        lowest = mask & -mask
+        found.append(lowest.bit_length() - 1)
+        mask ^= lowest
+    return found
+
+
+def ones(mask):
+    """Return how many numbers a mask has."""
+    return f"{mask:b}".count("1")
+
+
+def between_mask(one, other):
+    """Return the mask of the numbers between two in size."""
+    low, high = min(one, other), max(one, other)
+    return (1 << high) - (1 << (low + 1))
+
+
+def ahead_masks(order):
+    """Return, for each number of an order, the mask of those that stand left of it."""
+    found = [0] * len(order)
+    passed = 0
+    for number in order:
+        found[number] = passed
+        passed |= 1 << number
+    return found
+
+
+def right_masks(left):
+    """Return, for each number, the mask of those that it has to stand left of."""
+    found = [0] * len(left)
+    for number, mask in enumerate(left):
+        for other in numbers_in(mask):
+            found[other] |= 1 << number
+    return found
+
+
+def next_behind(left):
+    """Return, for each number, the list of those that have to stand right of it, and of none between."""
+    right = right_masks(left)
+    return [[other for other in numbers_in(mask) if not mask & left[other]] for mask in right]
+
+
+def begun_sets(left):
+    """Return, for each begun set, the list of the numbers that may come next; lesser sets come first."""
+    after = next_behind(left)
+    table = {0: [number for number, mask in enumerate(left) if not mask]}
+    layer = [0]
+    while layer:
+        found = []
+        for mask in layer:
+            for number in list(table[mask]):
+                more = mask | 1 << number
+                if more not in table:
+                    # Only what stands next behind the new number can have become free by it.
+                    freed = [other for other in after[number] if not left[other] & ~more]
+                    table[more] = sorted([other for other in table[mask] if other != number] + freed)
+                    found.append(more)
+        layer = found
+    return table
+
+
+def ends_counted(table):
+    """Return, for each begun set, in how many ways an order can go on behind it."""
+    counts = {}
+    for mask in reversed(list(table)):
+        counts[mask] = sum([counts[mask | 1 << number] for number in table[mask]]) if table[mask] else 1
+    return counts
+
+
+def number_among(left, order):
+    """Return how many of the orders that keep left are ahead of one of them."""
+    table = begun_sets(left)
+    counts = ends_counted(table)
+    found, mask = 0, 0
+    for item in order:
+        found += sum([counts[mask | 1 << number] for number in table[mask] if number < item])
+        mask |= 1 << item
+    return found
+
+
+def numbered_among(left, number):
+    """Return the order that keeps left ahead of which just so many are, None if there are too few."""
+    table = begun_sets(left)
+    counts = ends_counted(table)
+    if number >= counts[0]:
+        return None
+    found, mask, rest = [], 0, number
+    while table[mask]:
+        item, rest = _item_at(table[mask], counts, mask, rest)
+        found.append(item)
+        mask |= 1 << item
+    return found
+
+
+def _item_at(items, counts, mask, number):
+    """Return the item behind a begun set with which an order's number falls, and what is left of the number."""
+    rest = number
+    for item in items:
+        many = counts[mask | 1 << item]
+        if rest < many:
+            return item, rest
+        rest -= many
+    return None, rest
+
+
+def how_many_keep(left):
+    """Return how many orders keep left."""
+    return ends_counted(begun_sets(left))[0]
+
+
+def how_many_at(left, order, far):
+    """Return how many orders that keep left have just so many pairs the other way about than an order."""
+    if far > len(left) * len(left):
+        return 0
+    table = begun_sets(left)
+    ahead = ahead_masks(order)
+    # The counts for all distances stand side by side in one number, each in as many bits as all need.
+    width = ends_counted(table)[0].bit_length()
+    packed = {0: 1}
+    for mask in table:
+        for number in table[mask]:
+            more = mask | 1 << number
+            turned = ones(ahead[number] & ~mask)
+            packed[more] = packed.get(more, 0) + (packed[mask] << (width * turned))
+    whole = packed[(1 << len(left)) - 1]
+    return (whole >> (width * far)) & ((1 << width) - 1)
+
+
+def farthest_kept(left, order):
+    """Return the most pairs that an order that keeps left has the other way about, and the first with so many."""
+    table = begun_sets(left)
+    ahead = ahead_masks(order)
+    best = {}
+    for mask in reversed(list(table)):
+        best[mask] = max([ones(ahead[item] & ~mask) + best[mask | 1 << item] for item in table[mask]], default=0)
+    found, mask = [], 0
+    while table[mask]:
+        kept = [item for item in table[mask] if ones(ahead[item] & ~mask) + best[mask | 1 << item] == best[mask]]
+        found.append(kept[0])
+        mask |= 1 << kept[0]
+    return best[0], found
+
+
+def first_behind(left, begun):
+    """Return the first order that keeps left and begins with the items of a list."""
+    found = list(begun)
+    mask = mask_of(found)
+    while len(found) < len(left):
+        free = [item for item, ahead in enumerate(left) if not (mask >> item & 1 or ahead & ~mask)]
+        found.append(free[0])
+        mask |= 1 << free[0]
+    return found

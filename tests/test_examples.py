@@ -1,0 +1,173 @@
+"""The examples of the document, line by line."""
+
+import unittest
+
+from gapswaps.deeds import followed, led, left_between, open_places, order_done, row_done
+from gapswaps.lets import (
+    Lets, both, fault, fault_row, first_apart, good, good_sets, good_to, holds_to, how_many_good, is_fault_row, lean,
+    least_good, within,
+)
+from gapswaps.lines import bounds, marked, marks, pieces
+from gapswaps.orders import (
+    cut, is_log, is_order, is_row, log_of, order_number, order_numbered, order_of, places_of,
+)
+from gapswaps.pairs import (
+    can_touch, changes, class_counts, farthest, how_many_far, how_many_joined, joined_number, joined_numbered, keeps,
+    loose_pairs, next_joined, next_pairs, places_for, sure_pairs,
+)
+from gapswaps.travel import (
+    class_first, divided, is_stop, is_way, joined, joined_orders, order_way, passed, stop, way, without,
+)
+from gapswaps.ways import (
+    between_numbered, distance, farthest_two, how_many_between, how_many_between_at, how_many_ways, next_places,
+    stands_between, turned_first, unlike_pairs, way_number, way_numbered,
+)
+
+
+class ExamplesTest(unittest.TestCase):
+    maxDiff = None
+
+    def told(self, found, expected):
+        """repr, too: so True is no 1 and a tuple no list."""
+        self.assertEqual(repr(found), repr(expected))
+
+    def test_orders_and_deeds(self):
+        one = Lets([1])
+        self.told(
+            [log_of([3, 4, 0, 1, 2]), order_of([0, 1, 0, 1, 2]), places_of([3, 4, 0, 1, 2]), cut([3, 4, 0, 1, 2], 3)],
+            [[0, 1, 0, 1, 2], [3, 4, 0, 1, 2], [2, 3, 4, 0, 1], [1, 2, 0]],
+        )
+        self.told(
+            [is_order([1, 0]), is_order([1, 2]), is_row([5, 0]), is_log([0, 2]), is_log([]), order_number([1, 0, 2]),
+             order_numbered(3, 5)],
+            [True, False, True, False, True, 2, [2, 1, 0]],
+        )
+        self.told(
+            [left_between([3, 4, 0, 1, 2], 1), order_done(one, [3, 4, 0, 1, 2], 1), row_done(one, [0, 1, 0, 1, 2], 1),
+             open_places(one, [0, 1, 0, 1, 2])],
+            [1, [3, 0, 4, 1, 2], [0, 0, 2, 1, 2], [1]],
+        )
+        self.told(
+            [led(one, [0, 1, 0, 1, 2], [1, 2, 3]), order_of([0, 0, 1, 2, 4]), open_places(Lets([], 1), [0, 1, 2, 0]),
+             row_done(one, [7, 9], 0), followed(one, [0, 1, 0, 1, 2], [1, 2])],
+            [[0, 0, 1, 2, 4], [3, 0, 1, 2, 4], [2], [8, 7], [0, 2, 3, 1, 4]],
+        )
+
+    def test_lets(self):
+        one, two, steps = Lets([1]), Lets([4, 2, 2]), Lets([2, 5], 4)
+        self.told(
+            [steps.numbers(), steps.start(), Lets([3, 2], 4) == Lets([], 2), 1 in one, 0 in one, 7 in steps,
+             "a" in one, two.numbers(), two.start()],
+            [[2], 4, True, True, False, True, False, [2, 4], None],
+        )
+        self.told(
+            [good(one), lean(one), good(two), good(Lets([2, 4, 5])), lean(Lets([2, 4, 5])), good(Lets([], 3)),
+             lean(Lets([3, 4, 5])), good(Lets([]))],
+            [True, True, False, True, False, True, True, True],
+        )
+        self.told(
+            [fault(two), holds_to(two), good_to(two, 6), good_to(two, 7), fault(Lets([1, 3])),
+             holds_to(Lets([1, 3])), fault(one), holds_to(one)],
+            [(2, 2), 6, True, False, (1, 1), 4, None, None],
+        )
+        self.told(
+            [least_good(two) == Lets([2, 4, 5]), least_good(Lets([1, 3])) == Lets([], 1),
+             least_good(Lets([2, 3, 4])) == Lets([], 2), both(two, steps).numbers(), within(one, two),
+             first_apart(two, steps)],
+            [True, True, True, [2, 4], False, 5],
+        )
+        row = [[1, 3, 2, 0, 4], [1, 3, 0, 2, 4], [1, 3, 0, 4, 2], [1, 3, 4, 0, 2], [1, 3, 4, 2, 0], [1, 3, 2, 4, 0]]
+        self.told(
+            [is_fault_row(Lets([1, 2]), row), is_fault_row(Lets([1, 3]), row), len(fault_row(two)[0]), fault_row(one),
+             [how_many_good(length) for length in range(2, 8)], good_sets(5)],
+            [True, False, 7, None, [1, 2, 4, 6, 11, 17], [[], [1], [1, 2, 3], [2], [2, 3], [3]]],
+        )
+
+    def test_travel(self):
+        one, many = Lets([1]), Lets([], 1)
+        self.told(
+            [without(one, [1, 0, 1], 0), without(one, [2, 4, 6], 3), passed(one, [2, 4, 6], 3),
+             without(one, [2, 7], 3), passed(one, [2, 7], 3), without(one, [], 0)],
+            [[2, 1], [2, 6], 1, None, 1, None],
+        )
+        self.told(
+            [divided(one, [2, 1, 0], [1]), joined(one, [2, 1, 0], [1, 3, 0]), joined(one, [1, 3, 0], [2, 0, 2]),
+             joined(many, [0, 0, 3], [0, 2, 0]), class_first(one, [2, 1, 0])],
+            [[3, 0], True, True, True, [1, 2]],
+        )
+        # Any shortest way may be returned; here there is but one.
+        self.told(
+            [way(one, [1, 3, 0], [2, 0, 2]), is_way(one, [2, 1, 0], [1, 3, 0], [0]),
+             is_way(one, [2, 1], [2, 1], [0, 0]), way(one, [0, 0], [0, 1]), way(one, [], [])],
+            [[0, 1], True, True, None, []],
+        )
+        self.told(
+            [stop(one, [0, 0], [0, 1]), is_stop(one, [0, 0], [0, 1], ([], 1, 0)), stop(one, [2, 1], [1, 3]),
+             stop(one, [5, 2], [3, 5])],
+            [([], 1, 1), False, None, ([], 0, 0)],
+        )
+        self.told(
+            [joined_orders(one, [3, 4, 0, 1, 2], [3, 0, 1, 2, 4]), order_way(one, [3, 4, 0, 1, 2], [3, 0, 1, 2, 4]),
+             joined_orders(one, [0, 1], [1, 0])],
+            [True, [1, 2, 3], False],
+        )
+
+    def test_ways(self):
+        one, low, high = Lets([1]), [5, 2, 0, 1, 4, 3], [5, 2, 4, 3, 0, 1]
+        self.told(
+            [unlike_pairs(low, high), distance(one, low, high), next_places(one, low, high),
+             next_places(one, [5, 2, 0, 4, 1, 3], high), next_places(one, low, low)],
+            [[(0, 3), (0, 4), (1, 3), (1, 4)], 4, [3], [2, 4], []],
+        )
+        self.told(
+            [stands_between(one, low, high, [5, 2, 0, 4, 3, 1]), how_many_between(one, low, high),
+             between_numbered(one, low, high, 3), how_many_between_at(one, low, high, 2)],
+            [True, 6, [5, 2, 4, 0, 1, 3], 2],
+        )
+        self.told(
+            [how_many_ways(one, low, high), way_numbered(one, low, high, 1), way_number(one, low, high, [3, 2, 4, 3]),
+             way_number(one, low, high, [2, 3, 4, 3]), turned_first(one, low, high, (1, 4), (0, 3))],
+            [2, [3, 4, 2, 3], 0, None, True],
+        )
+        self.told(
+            [farthest_two(one, [5, 2, 4, 0, 1, 3]) == (low, high), farthest_two(one, [0, 1]),
+             how_many_ways(one, [6, 0, 1, 2, 3, 4, 5, 7], [6, 7, 0, 1, 2, 3, 4, 5])],
+            [True, ([0, 1], [0, 1]), 1],
+        )
+
+    def test_pairs(self):
+        one, order, low = Lets([1]), [3, 4, 0, 1, 2], [5, 2, 0, 1, 4, 3]
+        self.told(
+            [loose_pairs(one, order), sure_pairs(one, order), next_pairs(one, order),
+             keeps(one, order, [3, 0, 1, 2, 4]), keeps(one, order, [0, 3, 1, 2, 4])],
+            [[(0, 4), (1, 4), (2, 4)], [(0, 1), (0, 2), (1, 2), (3, 0), (3, 1), (3, 2), (3, 4)],
+             [(0, 1), (1, 2), (3, 0), (3, 4)], True, False],
+        )
+        self.told(
+            [how_many_joined(one, order), joined_number(one, order), joined_numbered(one, order, 1),
+             next_joined(one, order), next_joined(one, low), how_many_joined(one, list(range(200)))],
+            [4, 3, [3, 0, 1, 4, 2], None, [5, 2, 0, 4, 1, 3], 1],
+        )
+        self.told(
+            [class_counts(one, [1, 0, 2]), class_counts(one, order), class_counts(Lets([2]), [1, 0, 2]),
+             class_counts(one, [0])],
+            [([1], [0]), ([1], [0]), ([], [0, 1]), ([], [])],
+        )
+        self.told(
+            [places_for(one, order, 4), places_for(one, order, 3), can_touch(one, order, 1, 4),
+             can_touch(one, order, 0, 2),
+             [changes(one, order, 1, 4), changes(one, order, 0, 1), changes(one, order, 0, 2)],
+             how_many_far(one, low, 2), farthest(one, low), farthest(Lets([], 1), [0, 1, 2])],
+            [(1, 4), (0, 0), True, False, [True, False, None], 2, (4, [5, 2, 4, 3, 0, 1]), (0, [0, 1, 2])],
+        )
+
+    def test_lines(self):
+        one, far = Lets([1]), [3, 0, 4, 1, 2]
+        self.told(
+            [pieces(one, far), marks(one, far), bounds(one, far), marked(one, far, [[0], [0, 0, 1]])],
+            [[([3], []), ([0, 1, 2], [4])], [[0], [0, 1, 1]], [[(0, 0)], [(0, 1), (0, 1), (0, 1)]], [3, 0, 1, 4, 2]],
+        )
+
+
+if __name__ == "__main__":
+    unittest.main()

@@ -1,0 +1,203 @@
+"""[3] Each function within seconds at the limits that the points name."""
+
+import time
+import unittest
+from math import comb, factorial
+
+from gapswaps.deeds import followed, led, left_between, open_places, order_done, row_done
+from gapswaps.errors import InvalidNumber
+from gapswaps.lets import (
+    Lets, both, fault, fault_row, first_apart, good, good_sets, good_to, holds_to, how_many_good, is_fault_row, lean,
+    least_good, within,
+)
+from gapswaps.lines import bounds, marked, marks, pieces
+from gapswaps.orders import cut, is_log, is_order, log_of, order_number, order_numbered, order_of, places_of
+from gapswaps.pairs import (
+    can_touch, changes, class_counts, farthest, how_many_far, how_many_joined, joined_number, joined_numbered, keeps,
+    loose_pairs, next_joined, next_pairs, places_for, sure_pairs,
+)
+from gapswaps.travel import (
+    class_first, divided, is_stop, is_way, joined, joined_orders, order_way, passed, stop, way, without,
+)
+from gapswaps.ways import (
+    between_numbered, distance, farthest_two, how_many_between, how_many_between_at, how_many_ways, next_places,
+    stands_between, turned_first, unlike_pairs, way_number, way_numbered,
+)
+
+SECONDS = 10
+BIG = 10 ** 29
+ONE, MANY = Lets([1]), Lets([], 1)
+WIDE = [Lets(list(range(500, 700))), Lets(list(range(801, 1001))), Lets(list(range(2, 402, 2)), 1000), Lets([], 1000),
+        Lets(list(range(400, 500)) + list(range(900, 1000))), Lets([1] * 200, 1)]
+
+
+def two_lines(size):
+    """One number, an ascending line and a descending line that are put into one another in all ways by ONE."""
+    return [size] + list(range(size)) + list(range(2 * size, size, -1))
+
+
+def freed(size, length):
+    """An order by MANY in which size numbers stand behind all others in any order: some 3 * 2 ** (size - 1) begun sets."""
+    base = list(range(1, 2 * size - 1, 2)) + list(range(0, 2 * size, 2))
+    return list(range(length - 1, len(base) - 1, -1)) + base
+
+
+def blocks():
+    """An order of 200 numbers of 66 blocks, in each of which two numbers may change places by ONE."""
+    found = []
+    for at in range(66):
+        found = [3 * at + 1, 3 * at, 3 * at + 2] + found
+    return [199, 198] + found
+
+
+LINES, SHORT_LINES = two_lines(99), two_lines(29)
+FREED = freed(13, 200)
+
+
+class LimitsTest(unittest.TestCase):
+    def setUp(self):
+        self.began = time.monotonic()
+
+    def tearDown(self):
+        self.assertLess(time.monotonic() - self.began, SECONDS)
+
+    def test_orders(self):
+        order = order_numbered(200, factorial(200) - BIG)
+        self.assertTrue(is_order(order) and is_log(log_of(order)))
+        self.assertEqual(order_number(order), factorial(200) - BIG)
+        self.assertEqual(order_of(log_of(order)), order)
+        self.assertEqual(order[places_of(order)[77]], 77)
+        self.assertEqual((cut(order, 200), len(cut(order, 199))), (order, 199))
+
+    def test_deeds(self):
+        row = [BIG, 0] * 100
+        self.assertEqual(open_places(MANY, row), list(range(199)))
+        self.assertEqual(row_done(MANY, row, 198)[198:], [0, BIG + 1])
+        self.assertEqual(sorted(followed(MANY, row, [198, 196] * 5000)), list(range(200)))
+        self.assertEqual(led(MANY, row, [198, 196] * 5000), row)
+        self.assertEqual(len(led(MANY, [0] * 199 + [BIG], list(range(198, -1, -1)))), 200)
+        self.assertEqual(left_between(list(range(1, 199)) + [199, 0], 198), 198)
+        self.assertEqual(order_done(MANY, list(range(1, 199)) + [199, 0], 198)[198:], [0, 199])
+
+    def test_wide_sets(self):
+        for lets in WIDE:
+            self.assertIn(good(lets), (True, False))
+            self.assertIn(lean(lets), (True, False))
+            self.assertIs(good_to(lets, 10000), good(lets))
+            self.assertEqual(fault(lets) is None, holds_to(lets) is None)
+            self.assertTrue(good(least_good(lets)) and within(lets, least_good(lets)))
+            for other in WIDE:
+                self.assertTrue(within(both(lets, other), lets))
+                self.assertEqual(first_apart(lets, other) is None, lets == other)
+
+    def test_fault_rows(self):
+        lets = Lets([98, 99, 198])
+        self.assertEqual([len(order) for order in fault_row(lets)], [200] * 6)
+        self.assertIs(is_fault_row(lets, fault_row(lets)), True)
+
+    def test_good_sets(self):
+        self.assertGreater(how_many_good(16), len(good_sets(12)))
+
+    def test_travellers(self):
+        for lets in [ONE, MANY] + [lets for lets in WIDE if good(lets)]:
+            for row in ([BIG - at for at in range(200)], [2 * at for at in range(200)], [at % 7 for at in range(200)]):
+                self.assertEqual(len(class_first(lets, row)), len(set(class_first(lets, row))))
+                self.assertLessEqual(passed(lets, row, BIG), 200)
+                for item in class_first(lets, row):
+                    self.assertIsNotNone(without(lets, row, item))
+
+    def test_ways_of_rows(self):
+        row = [2 * at for at in range(200)]
+        other = led(MANY, row, [at for size in range(199, 0, -1) for at in range(size)])
+        found = way(MANY, row, other)
+        self.assertEqual(len(found), 19900)
+        self.assertTrue(is_way(MANY, row, other, found))
+        self.assertTrue(joined(MANY, row, other))
+        self.assertEqual(divided(MANY, row, other), [])
+        late = other[:199] + [other[199] + 1]
+        self.assertTrue(is_stop(MANY, row, late, stop(MANY, row, late)))
+
+    def test_ways_of_orders(self):
+        low, high = farthest_two(ONE, LINES)
+        self.assertTrue(joined_orders(ONE, low, high))
+        self.assertEqual(len(order_way(ONE, low, high)), 99 * 99)
+        self.assertEqual(len(unlike_pairs(low, high)), 99 * 99)
+        self.assertEqual(distance(ONE, low, high), 99 * 99)
+        self.assertEqual(next_places(ONE, low, high), [99])
+        self.assertTrue(stands_between(ONE, low, high, LINES))
+        self.assertIs(turned_first(ONE, low, high, (98, 198), (0, 198)), True)
+        self.assertIs(turned_first(ONE, low, high, (0, 198), (98, 198)), False)
+
+    def test_orders_between(self):
+        low, high = farthest_two(ONE, LINES)
+        many = comb(198, 99)
+        self.assertEqual(how_many_between(ONE, low, high), many)
+        last = between_numbered(ONE, low, high, many - 1)
+        self.assertTrue(stands_between(ONE, low, high, last))
+        self.assertRaises(InvalidNumber, between_numbered, ONE, low, high, many)
+        far = farthest(MANY, FREED)[1]
+        self.assertEqual(how_many_between(MANY, FREED, far), factorial(13))
+        self.assertEqual(len(between_numbered(MANY, FREED, far, factorial(13) - 1)), 200)
+
+    def test_distances_between(self):
+        low, high = farthest_two(ONE, SHORT_LINES)
+        spread = [how_many_between_at(ONE, low, high, far) for far in range(0, 842, 29)]
+        self.assertEqual((spread, spread[0]), (spread[::-1], 1))
+        order = freed(10, 24)
+        far = farthest(MANY, order)[1]
+        self.assertEqual(sum(how_many_between_at(MANY, order, far, at) for at in range(46)), factorial(10))
+
+    def test_numbered_ways(self):
+        """20,000 orders between, of 200 numbers."""
+        order = blocks()
+        other = list(order)
+        for at in range(14):
+            place = other.index(3 * at)
+            other[place], other[place + 1] = other[place + 1], other[place]
+        self.assertEqual(how_many_between(ONE, order, other), 2 ** 14)
+        self.assertEqual(how_many_ways(ONE, order, other), factorial(14))
+        last = way_numbered(ONE, order, other, factorial(14) - 1)
+        self.assertEqual(last, sorted(last, reverse=True))
+        self.assertEqual(way_number(ONE, order, other, last), factorial(14) - 1)
+
+    def test_sure_pairs(self):
+        for lets, order in ((ONE, LINES), (MANY, FREED), (MANY, order_numbered(200, factorial(200) // 3))):
+            self.assertEqual(len(sure_pairs(lets, order)) + len(loose_pairs(lets, order)), 19900 - 199 * (len(order) < 200))
+            self.assertGreaterEqual(len(next_pairs(lets, order)), 198)
+            self.assertTrue(keeps(lets, order, order))
+            self.assertEqual(len(class_counts(lets, order)), 2)
+            self.assertLessEqual(places_for(lets, order, 0), (199, 199))
+            self.assertEqual(changes(lets, order, 0, 1) is None, not can_touch(lets, order, 0, 1))
+
+    def test_numbered_orders(self):
+        for lets, order in ((ONE, LINES), (MANY, FREED)):
+            many = how_many_joined(lets, order)
+            first, last = joined_numbered(lets, order, 0), joined_numbered(lets, order, many - 1)
+            self.assertEqual((joined_number(lets, first), joined_number(lets, last)), (0, many - 1))
+            self.assertEqual(joined_number(lets, next_joined(lets, first)), 1)
+            self.assertIsNone(next_joined(lets, last))
+            far, found = farthest(lets, first)
+            self.assertEqual(distance(lets, first, found), far)
+        self.assertEqual(how_many_joined(ONE, LINES), comb(198, 99))
+
+    def test_distances_in_a_class(self):
+        many = how_many_joined(ONE, SHORT_LINES)
+        self.assertEqual(many, comb(58, 29))
+        spread = [how_many_far(ONE, SHORT_LINES, far) for far in range(0, 842, 29)]
+        self.assertEqual((spread, spread[0]), (spread[::-1], 1))
+        order = freed(10, 24)
+        far = farthest(MANY, order)[0]
+        self.assertEqual(sum(how_many_far(MANY, order, at) for at in range(far + 1)), how_many_joined(MANY, order))
+
+    def test_lines(self):
+        for order in (SHORT_LINES + [59], LINES):
+            found = pieces(ONE, order)
+            self.assertEqual(sum(len(first) + len(second) for first, second in found), len(order))
+            self.assertEqual(marked(ONE, order, marks(ONE, order)), order)
+            self.assertEqual([len(limits) for limits in bounds(ONE, order)], [len(first) for first, _ in found])
+            highest = [[high for _, high in limits] for limits in bounds(ONE, order)]
+            self.assertEqual(farthest_two(ONE, order)[1], marked(ONE, order, highest))
+
+
+if __name__ == "__main__":
+    unittest.main()

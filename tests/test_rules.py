@@ -1,0 +1,259 @@
+"""[1] to [4] What holds for every function: names, the order of errors, new lists, unchanged arguments."""
+
+import inspect
+import unittest
+from importlib import import_module
+
+from gapswaps import errors
+from gapswaps.lets import Lets
+
+BIG = 10 ** 29
+
+
+def nested(depth):
+    thing = []
+    for _ in range(depth - 1):
+        thing = [thing]
+    return thing
+
+
+# Some of any value: each is wrong somewhere, and none is right where it is asked for nothing.
+ANY = [None, True, False, "", "a", (), (1, 2), {}, {"a": [1]}, nested(30), [nested(3)], errors.InvalidOrder([0]),
+       [None], [True], ["0"], [-1], -1, BIG]
+LETS_TOO = ANY + [0, 1, [], [0], [1]]
+NOT_GOOD = LETS_TOO + [Lets([1, 3]), Lets([1, 2]), Lets([2, 4]), Lets([1], 3)]
+NOT_LEAN = NOT_GOOD + [Lets([], 1), Lets([], 5), Lets([2, 4, 5])]
+SETS = [Lets([1]), Lets([], 1)]
+NO_ROWS = ANY + SETS + [0, [0] * 201, (0,), [0, None], [[0]], [0, False]]
+NO_ORDERS = NO_ROWS + [[1], [0, 0], [1, 2], [0, 2], list(range(201)), [0, True]]
+NO_LOGS = NO_ROWS + [[1], [0, 2], [0, 0, 3]]
+NO_COUNTS = [thing for thing in ANY if thing is not BIG] + SETS + [[], [0], (0,)]
+NO_NUMBERS = NO_COUNTS + [BIG, 5, 6]
+NO_LISTS = [thing for thing in ANY if not isinstance(thing, list)] + SETS + [0, (0,)]
+
+WRONG = {
+    "lets": ("InvalidLets", LETS_TOO), "good": ("InvalidLets", NOT_GOOD), "lean": ("InvalidLets", NOT_LEAN),
+    "order": ("InvalidOrder", NO_ORDERS), "row": ("InvalidRow", NO_ROWS), "log": ("InvalidRow", NO_LOGS),
+    "count": ("InvalidNumber", NO_COUNTS), "number": ("InvalidNumber", NO_NUMBERS),
+    "place": ("InvalidPlace", NO_COUNTS + [4, 5, BIG, 0]), "any place": ("InvalidPlace", NO_COUNTS + [4, 5, BIG]),
+    "to 16": ("InvalidNumber", NO_COUNTS + [0, 1, 17, BIG]), "to 12": ("InvalidNumber", NO_COUNTS + [0, 1, 13, 16, BIG]),
+    "list": ("InvalidList", NO_LISTS), "alike order": ("Unlike", [[], [0], [0, 1, 2], list(range(200))]),
+    "alike row": ("Unlike", [[], [0], [0, 1, 2, 3], [BIG] * 200]),
+    "joined order": ("Unlike", [[], [0], [0, 1, 2, 3, 4], [4, 3, 0, 1, 2], list(range(200))]),
+    "pair": ("InvalidPairs", ANY + SETS + [[0, 4], (4, 0), (0, 1), (3, 4), (0, 4, 0), (0,), (0, 5), (False, 4)]),
+    "length": ("InvalidNumber", NO_COUNTS + [6, BIG]),
+    "marks": ("InvalidList", NO_ORDERS + [[], [[0]], [[0], [0, 2, 1]], ([0], [0, 0, 1])]),
+    "numbers": ("InvalidList", [thing for thing in ANY] + SETS + [1, [0], [1001], [1] * 201, (1,)]),
+    "start": ("InvalidNumber", [thing for thing in ANY if thing is not None] + SETS + [0, 1001, [1]]),
+}
+
+ONE, FAR, OTHER = Lets([1]), [3, 4, 0, 1, 2], [3, 0, 1, 2, 4]
+TWO = [("good", ONE), ("order", FAR), ("order", OTHER), ("joined order", OTHER)]
+ROWS = [("good", ONE), ("row", [2, 1, 0]), ("row", [1, 3, 0])]
+PAIRS = [("good", ONE), ("order", FAR)]
+
+# For each function: its module, its arguments, and, in the order in which they are looked at, what they have to be and
+# one that is right. The kinds "alike" and "joined" look at the argument ahead again; "value" may be anything.
+CALLS = [
+    ("orders", "is_order", "value", [("value", [1, 0])]),
+    ("orders", "is_row", "value", [("value", [5, 0])]),
+    ("orders", "is_log", "value", [("value", [0, 1])]),
+    ("orders", "log_of", "order", [("order", FAR)]),
+    ("orders", "order_of", "log", [("log", [0, 1, 0])]),
+    ("orders", "places_of", "order", [("order", FAR)]),
+    ("orders", "cut", "order length", [("order", FAR), ("length", 3)]),
+    ("orders", "order_number", "order", [("order", FAR)]),
+    ("orders", "order_numbered", "length number", [("count", 2), ("number", 1)]),
+    ("deeds", "left_between", "order at", [("order", FAR), ("any place", 1)]),
+    ("deeds", "order_done", "lets order at", [("lets", ONE), ("order", FAR), ("place", 1)]),
+    ("deeds", "row_done", "lets row at", [("lets", ONE), ("row", [0, 1, 0, 1, 2]), ("place", 1)]),
+    ("deeds", "open_places", "lets row", [("lets", ONE), ("row", [0, 1, 0, 1, 2])]),
+    ("deeds", "led", "lets row places", [("lets", ONE), ("row", [0, 1, 0, 1, 2]), ("list", [1, 2])]),
+    ("deeds", "followed", "lets row places", [("lets", ONE), ("row", [0, 1, 0, 1, 2]), ("list", [1, 2])]),
+    ("lets", "Lets", "numbers start", [("numbers", [2, 1]), ("start", 5)]),
+    ("lets", "good", "lets", [("lets", ONE)]),
+    ("lets", "lean", "lets", [("lets", ONE)]),
+    ("lets", "fault", "lets", [("lets", Lets([1, 3]))]),
+    ("lets", "good_to", "lets length", [("lets", Lets([1, 3])), ("count", 4)]),
+    ("lets", "holds_to", "lets", [("lets", Lets([1, 3]))]),
+    ("lets", "fault_row", "lets", [("lets", Lets([1, 3]))]),
+    ("lets", "is_fault_row", "lets value", [("lets", Lets([1, 3])), ("value", [[0], [1]])]),
+    ("lets", "both", "one other", [("lets", ONE), ("lets", Lets([2], 4))]),
+    ("lets", "within", "one other", [("lets", ONE), ("lets", Lets([2], 4))]),
+    ("lets", "first_apart", "one other", [("lets", ONE), ("lets", Lets([2], 4))]),
+    ("lets", "least_good", "lets", [("lets", Lets([2, 4]))]),
+    ("lets", "how_many_good", "length", [("to 16", 4)]),
+    ("lets", "good_sets", "length", [("to 12", 4)]),
+    ("travel", "without", "lets row item", [("good", ONE), ("row", [2, 4, 6]), ("count", 3)]),
+    ("travel", "passed", "lets row item", [("good", ONE), ("row", [2, 4, 6]), ("count", 3)]),
+    ("travel", "divided", "lets row by", [("good", ONE), ("row", [2, 1, 0]), ("row", [1])]),
+    ("travel", "joined", "lets one other", ROWS),
+    ("travel", "class_first", "lets row", [("good", ONE), ("row", [2, 1, 0])]),
+    ("travel", "way", "lets one other", ROWS + [("alike row", [1, 3, 0])]),
+    ("travel", "is_way", "lets one other value", ROWS + [("alike row", [1, 3, 0]), ("value", [0])]),
+    ("travel", "stop", "lets one other", [("good", ONE), ("row", [0, 0]), ("row", [0, 1]), ("alike row", [0, 1])]),
+    ("travel", "is_stop", "lets one other value", ROWS + [("alike row", [1, 3, 0]), ("value", ([], 1, 1))]),
+    ("travel", "joined_orders", "lets one other", TWO[:3] + [("alike order", OTHER)]),
+    ("travel", "order_way", "lets one other", TWO[:3] + [("alike order", OTHER)]),
+    ("ways", "unlike_pairs", "one other", [("order", FAR), ("order", OTHER), ("alike order", OTHER)]),
+    ("ways", "distance", "lets one other", TWO),
+    ("ways", "next_places", "lets one other", TWO),
+    ("ways", "stands_between", "lets one other value", TWO + [("value", FAR)]),
+    ("ways", "how_many_between", "lets one other", TWO),
+    ("ways", "between_numbered", "lets one other number", TWO + [("number", 2)]),
+    ("ways", "how_many_between_at", "lets one other far", TWO + [("count", 2)]),
+    ("ways", "how_many_ways", "lets one other", TWO),
+    ("ways", "way_numbered", "lets one other number", TWO + [("number", 0)]),
+    ("ways", "way_number", "lets one other value", TWO + [("value", [1, 2, 3])]),
+    ("ways", "turned_first", "lets one other first second", TWO + [("pair", (0, 4)), ("pair", (2, 4))]),
+    ("ways", "farthest_two", "lets order", [("lean", ONE), ("order", FAR)]),
+    ("pairs", "sure_pairs", "lets order", PAIRS),
+    ("pairs", "loose_pairs", "lets order", PAIRS),
+    ("pairs", "next_pairs", "lets order", PAIRS),
+    ("pairs", "keeps", "lets order value", PAIRS + [("value", OTHER)]),
+    ("pairs", "how_many_joined", "lets order", PAIRS),
+    ("pairs", "joined_number", "lets order", PAIRS),
+    ("pairs", "joined_numbered", "lets order number", PAIRS + [("number", 1)]),
+    ("pairs", "next_joined", "lets order", [("good", ONE), ("order", OTHER)]),
+    ("pairs", "places_for", "lets order item", PAIRS + [("number", 4)]),
+    ("pairs", "can_touch", "lets order one other", PAIRS + [("number", 1), ("number", 4)]),
+    ("pairs", "changes", "lets order one other", PAIRS + [("number", 1), ("number", 4)]),
+    ("pairs", "class_counts", "lets order", PAIRS),
+    ("pairs", "how_many_far", "lets order far", PAIRS + [("count", 2)]),
+    ("pairs", "farthest", "lets order", PAIRS),
+    ("lines", "pieces", "lets order", [("lean", ONE), ("order", FAR)]),
+    ("lines", "marks", "lets order", [("lean", ONE), ("order", FAR)]),
+    ("lines", "bounds", "lets order", [("lean", ONE), ("order", FAR)]),
+    ("lines", "marked", "lets order value", [("lean", ONE), ("order", FAR), ("marks", [[0], [0, 0, 1]])]),
+]
+ERRORS = ("GapError InvalidNumber InvalidOrder InvalidRow InvalidLets InvalidList InvalidPlace InvalidPairs InvalidRule "
+          "InvalidTree InvalidLines InvalidDeed InvalidFlag InvalidHall Unlike TooMany NothingToUndo NothingToRedo").split()
+
+
+def called(module, name):
+    return getattr(import_module(f"gapswaps.{module}"), name)
+
+
+def is_second_look(kind):
+    return kind.startswith(("alike", "joined"))
+
+
+def right_arguments(kinds):
+    return [right for kind, right in kinds if not is_second_look(kind)]
+
+
+def shown(thing):
+    """What a thing is, all kinds in it told, too."""
+    if isinstance(thing, Lets):
+        return ("Lets", thing.numbers(), thing.start())
+    if isinstance(thing, (list, tuple)):
+        return (thing.__class__.__name__, [shown(item) for item in thing])
+    return (thing.__class__.__name__, repr(thing))
+
+
+def lists_in(thing):
+    found = [thing] if isinstance(thing, list) else []
+    if isinstance(thing, (list, tuple)):
+        for item in thing:
+            found += lists_in(item)
+    return found
+
+
+class NamesTest(unittest.TestCase):
+    def test_names_and_arguments(self):
+        for module, name, arguments, kinds in CALLS:
+            thing = called(module, name)
+            self.assertEqual(thing.__module__, f"gapswaps.{module}", name)
+            self.assertEqual(list(inspect.signature(thing).parameters), arguments.split(), name)
+            self.assertEqual(len(right_arguments(kinds)), len(arguments.split()), name)
+
+    def test_errors_stand_in_their_module(self):
+        for name in ERRORS:
+            self.assertEqual(getattr(errors, name).__module__, "gapswaps.errors")
+
+    def test_methods_stand_in_their_class(self):
+        for name in ("__init__", "numbers", "start", "__contains__", "__eq__"):
+            self.assertIn(name, vars(Lets))
+        self.assertEqual(list(inspect.signature(Lets).parameters.values())[1].default, None)
+
+    def test_arguments_by_name(self):
+        for module, name, arguments, kinds in CALLS:
+            by_name = dict(zip(arguments.split(), right_arguments(kinds)))
+            thing = called(module, name)
+            self.assertEqual(shown(thing(**by_name)), shown(thing(*right_arguments(kinds))), name)
+
+
+class WrongArgumentsTest(unittest.TestCase):
+    def refused(self, thing, arguments, at, error, wrong):
+        tried = arguments[:at] + [wrong] + arguments[at + 1:]
+        before = [shown(item) for item in tried]
+        with self.assertRaises(errors.GapError) as caught:
+            thing(*tried)
+        self.assertEqual(caught.exception.__class__.__name__, error, (thing.__name__, at, wrong))
+        self.assertIs(caught.exception.value, wrong)
+        self.assertEqual([shown(item) for item in tried], before)
+
+    def test_each_wrong_argument_alone_and_with_wrong_ones_behind(self):
+        for module, name, _, kinds in CALLS:
+            thing, right = called(module, name), right_arguments(kinds)
+            at = -1
+            for kind, _ in kinds:
+                at += 0 if is_second_look(kind) else 1
+                if kind != "value":
+                    error, wrong = WRONG[kind]
+                    for value in wrong:
+                        self.refused(thing, right, at, error, value)
+                        for behind in (None, [None], 10 ** 29, (True,)):
+                            self.refused(thing, right[:at + 1] + [behind] * (len(right) - at - 1), at, error, value)
+
+    def test_any_value(self):
+        for module, name, _, kinds in CALLS:
+            if kinds[-1][0] == "value" and name != "way_number":
+                for value in ANY + SETS + [0, 7, (0,), [0, None], [[0]], [0, 1, True]]:
+                    right = right_arguments(kinds)[:-1] + [value]
+                    self.assertIs(called(module, name)(*right), False, (name, value))
+
+
+class ListsTest(unittest.TestCase):
+    def test_arguments_stay_as_they_are(self):
+        for module, name, _, kinds in CALLS:
+            arguments = right_arguments(kinds)
+            before = [shown(item) for item in arguments]
+            called(module, name)(*arguments)
+            self.assertEqual([shown(item) for item in arguments], before, name)
+
+    def test_equal_calls_return_equal_new_things(self):
+        for module, name, _, kinds in CALLS:
+            arguments = right_arguments(kinds)
+            one = called(module, name)(*arguments)
+            other = called(module, name)(*arguments)
+            self.assertEqual(shown(one), shown(other), name)
+            if name == "Lets":
+                one, other = [one.numbers()], [other.numbers()]
+            ids = [id(item) for item in lists_in(one) + lists_in(other)]
+            self.assertEqual(len(ids), len(set(ids)), name)
+            self.assertFalse(set(ids) & set(id(item) for item in lists_in(arguments)), name)
+
+    def test_what_was_handed_out_may_be_changed(self):
+        for module, name, _, kinds in CALLS:
+            arguments = right_arguments(kinds)
+            before = shown(called(module, name)(*arguments))
+            found = called(module, name)(*arguments)
+            for item in lists_in(found):
+                item.append("changed")
+            if name != "Lets":
+                self.assertEqual(shown(called(module, name)(*arguments)), before, name)
+
+    def test_kinds_of_what_is_returned(self):
+        """No dict, set or float anywhere, and bool where something is told to be so or not."""
+        for module, name, _, kinds in CALLS:
+            told = str(shown(called(module, name)(*right_arguments(kinds))))
+            self.assertFalse(any(f"('{kind}'" in told for kind in ("dict", "set", "float", "frozenset", "range")), name)
+        for name in ("is_order", "is_row", "is_log", "good", "lean", "good_to", "is_fault_row", "within", "joined",
+                     "is_way", "is_stop", "joined_orders", "stands_between", "turned_first", "keeps", "can_touch"):
+            module, kinds = [(module, kinds) for module, other, _, kinds in CALLS if other == name][0]
+            self.assertIsInstance(called(module, name)(*right_arguments(kinds)), bool, name)
+
+
+if __name__ == "__main__":
+    unittest.main()

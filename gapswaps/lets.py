@@ -111,10 +111,9 @@ def _least_fault_sum(lets):
     """Return the least sum of two numbers of a set that makes a fault, None if there is none."""
     mask = mask_of(lets.numbers())
     sums = _sums(mask)
-    top = 2 * _end(lets)
+    # From here on, a sum and the number behind it are both in the set, or neither is.
+    top = _end(lets)
     if lets.start() is not None:
-        # From the start on, all sums and the numbers behind them are in the set.
-        top = lets.start()
         mask |= 1 << top
     return min(numbers_in(_fault_sums(mask, sums, top)), default=None)
 
@@ -210,8 +209,6 @@ def both(one, other):
 
 def within(one, other):
     """Return whether all numbers of one set are in another one."""
-    need_lets(one)
-    need_lets(other)
     return both(one, other) == one
 
 

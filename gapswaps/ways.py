@@ -1,7 +1,6 @@
 """Shortest ways from one order to another one, and the orders between them."""
 
 from gapswaps.errors import InvalidNumber, InvalidPairs, Unlike
-from gapswaps.lets import need_lean
 from gapswaps.lines import bounds, marked
 from gapswaps.masks import ahead_masks, how_many_at, how_many_keep, numbered_among
 from gapswaps.orders import is_count, is_order, need_order, places_of
@@ -215,8 +214,6 @@ def turned_first(lets, one, other, first, second):
 
 def farthest_two(lets, order):
     """Return the two orders joined to an order that have all marks least, and all marks greatest."""
-    need_lean(lets)
-    need_order(order)
     limits = bounds(lets, order)
     least = [[low for low, _ in piece] for piece in limits]
     greatest = [[high for _, high in piece] for piece in limits]

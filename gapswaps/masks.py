@@ -97,6 +97,16 @@ def number_among(left, order):
     return found
 
 
+def picked(counts, number):
+    """Return, of things each of which stands for so many, the one that a number falls to, and what is left of it."""
+    rest = number
+    for at, many in enumerate(counts):
+        if rest < many:
+            return at, rest
+        rest -= many
+    return None, rest
+
+
 def numbered_among(left, number):
     """Return the order that keeps left ahead of which just so many are, None if there are too few."""
     table = begun_sets(left)
@@ -105,21 +115,10 @@ def numbered_among(left, number):
         return None
     found, mask, rest = [], 0, number
     while table[mask]:
-        item, rest = _item_at(table[mask], counts, mask, rest)
-        found.append(item)
-        mask |= 1 << item
+        at, rest = picked([counts[mask | 1 << item] for item in table[mask]], rest)
+        found.append(table[mask][at])
+        mask |= 1 << found[-1]
     return found
-
-
-def _item_at(items, counts, mask, number):
-    """Return the item behind a begun set with which an order's number falls, and what is left of the number."""
-    rest = number
-    for item in items:
-        many = counts[mask | 1 << item]
-        if rest < many:
-            return item, rest
-        rest -= many
-    return None, rest
 
 
 def how_many_keep(left):
@@ -145,27 +144,71 @@ def how_many_at(left, order, far):
     return (whole >> (width * far)) & ((1 << width) - 1)
 
 
-def farthest_kept(left, order):
-    """Return the most pairs that an order that keeps left has the other way about, and the first with so many."""
+def _gain(mask, told):
+    """Return what tuples (worth, numbers) tell for a mask: for each of its numbers that is in a mask, the worth."""
+    return sum([worth * ones(mask & numbers) for worth, numbers in told])
+
+
+def best_kept(left, gains):
+    """Return the greatest gain of an order that keeps left, and the first order that has it.
+
+    The gain is the sum, over all items, of what the tuples of gains for an item tell of those that stand ahead of it.
+    """
     table = begun_sets(left)
-    ahead = ahead_masks(order)
     best = {}
     for mask in reversed(list(table)):
-        best[mask] = max([ones(ahead[item] & ~mask) + best[mask | 1 << item] for item in table[mask]], default=0)
+        best[mask] = max([_gain(mask, gains[item]) + best[mask | 1 << item] for item in table[mask]], default=0)
     found, mask = [], 0
     while table[mask]:
-        kept = [item for item in table[mask] if ones(ahead[item] & ~mask) + best[mask | 1 << item] == best[mask]]
+        kept = [item for item in table[mask] if _gain(mask, gains[item]) + best[mask | 1 << item] == best[mask]]
         found.append(kept[0])
         mask |= 1 << kept[0]
     return best[0], found
 
 
+def _turned_kept(left, order, sign):
+    """Return the greatest number of pairs that an order that keeps left has the other way about than an order.
+
+    The first order that has so many stands behind it. With -1 as the sign, it is the least number instead.
+    """
+    kept, found = best_kept(left, [[(-sign, ahead)] for ahead in ahead_masks(order)])
+    return len(order) * (len(order) - 1) // 2 + sign * kept, found
+
+
+def farthest_kept(left, order):
+    """Return the most pairs that an order that keeps left has the other way about, and the first with so many."""
+    return _turned_kept(left, order, 1)
+
+
+def nearest_kept(left, order):
+    """Return the fewest pairs that an order that keeps left has the other way about, and the first with so few."""
+    return _turned_kept(left, order, -1)
+
+
 def first_behind(left, begun):
-    """Return the first order that keeps left and begins with the items of a list."""
+    """Return the first order that keeps left and begins with the items of a list, as far as there is one.
+
+    It ends early if numbers are left over each of which has to stand right of another one of them.
+    """
     found = list(begun)
     mask = mask_of(found)
-    while len(found) < len(left):
+    while True:
         free = [item for item, ahead in enumerate(left) if not (mask >> item & 1 or ahead & ~mask)]
+        if not free:
+            return found
         found.append(free[0])
         mask |= 1 << free[0]
+
+
+def is_kept(left, order):
+    """Return whether an order keeps left."""
+    return not any([mask & ~ahead for mask, ahead in zip(left, ahead_masks(order))])
+
+
+def closed_masks(left):
+    """Return, for each number, the mask of those that stand left of it, directly or over others."""
+    found = list(left)
+    for number in range(len(found)):
+        over = found[number]
+        found = [mask | over if mask >> number & 1 else mask for mask in found]
     return found

@@ -34,6 +34,12 @@ def is_log(value):
     return is_row(value) and all([item <= at for at, item in enumerate(value)])
 
 
+def need_count(number):
+    """Refuse what is no count."""
+    if not is_count(number):
+        raise InvalidNumber(number)
+
+
 def need_order(order):
     """Refuse what is no order."""
     if not is_order(order):

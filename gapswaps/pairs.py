@@ -3,10 +3,10 @@
 from gapswaps.errors import InvalidNumber
 from gapswaps.lets import need_good
 from gapswaps.masks import (
-    ahead_masks, between_mask, farthest_kept, first_behind, how_many_at, how_many_keep, mask_of, next_behind,
-    number_among, numbered_among, numbers_in, ones,
+    between_mask, farthest_kept, first_behind, how_many_at, how_many_keep, is_kept, mask_of, next_behind, number_among,
+    numbered_among, numbers_in, ones,
 )
-from gapswaps.orders import is_count, is_order, need_order
+from gapswaps.orders import is_count, is_order, need_count, need_order
 
 
 def sure_masks(lets, order):
@@ -67,7 +67,7 @@ def keeps(lets, order, value):
     left = _sure_left(lets, order)
     if not is_order(value) or len(value) != len(order):
         return False
-    return not any([mask & ~ahead for mask, ahead in zip(left, ahead_masks(value))])
+    return is_kept(left, value)
 
 
 def how_many_joined(lets, order):
@@ -83,8 +83,7 @@ def joined_number(lets, order):
 def joined_numbered(lets, order, number):
     """Return the order joined to an order ahead of which just so many of these are."""
     left = _sure_left(lets, order)
-    if not is_count(number):
-        raise InvalidNumber(number)
+    need_count(number)
     found = numbered_among(left, number)
     if found is None:
         raise InvalidNumber(number)
@@ -168,8 +167,7 @@ def class_counts(lets, order):
 def how_many_far(lets, order, far):
     """Return how many orders joined to an order have a distance from it."""
     left = _sure_left(lets, order)
-    if not is_count(far):
-        raise InvalidNumber(far)
+    need_count(far)
     return how_many_at(left, order, far)
 
 

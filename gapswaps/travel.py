@@ -1,9 +1,9 @@
 """Numbers that travel through rows, and what rows are joined by good sets."""
 
 from gapswaps.deeds import deeds_done
-from gapswaps.errors import InvalidNumber, Unlike
+from gapswaps.errors import Unlike
 from gapswaps.lets import need_good
-from gapswaps.orders import is_count, log_of, need_order, need_row
+from gapswaps.orders import is_count, log_of, need_count, need_order, need_row
 
 
 def _journey(lets, row, item):
@@ -26,8 +26,7 @@ def _journey(lets, row, item):
 def _need_one(lets, row, item):
     need_good(lets)
     need_row(row)
-    if not is_count(item):
-        raise InvalidNumber(item)
+    need_count(item)
 
 
 def without(lets, row, item):

@@ -2,8 +2,8 @@
 
 from gapswaps.errors import InvalidNumber, InvalidPairs, Unlike
 from gapswaps.lines import bounds, marked
-from gapswaps.masks import ahead_masks, how_many_at, how_many_keep, numbered_among
-from gapswaps.orders import is_count, is_order, need_order, places_of
+from gapswaps.masks import ahead_masks, how_many_at, how_many_keep, is_kept, numbered_among, picked
+from gapswaps.orders import is_count, is_order, need_count, need_order, places_of
 from gapswaps.travel import joined_orders
 
 
@@ -66,7 +66,7 @@ def stands_between(lets, one, other, value):
     _need(lets, one, other)
     if not is_order(value) or len(value) != len(one):
         return False
-    return not any([mask & ~ahead for mask, ahead in zip(_kept(one, other), ahead_masks(value))])
+    return is_kept(_kept(one, other), value)
 
 
 def how_many_between(lets, one, other):
@@ -78,8 +78,7 @@ def how_many_between(lets, one, other):
 def between_numbered(lets, one, other, number):
     """Return the order between two orders ahead of which just so many of these are."""
     _need(lets, one, other)
-    if not is_count(number):
-        raise InvalidNumber(number)
+    need_count(number)
     found = numbered_among(_kept(one, other), number)
     if found is None:
         raise InvalidNumber(number)
@@ -89,8 +88,7 @@ def between_numbered(lets, one, other, number):
 def how_many_between_at(lets, one, other, far):
     """Return how many of the orders between two orders have a distance from the first one."""
     _need(lets, one, other)
-    if not is_count(far):
-        raise InvalidNumber(far)
+    need_count(far)
     return how_many_at(_kept(one, other), one, far)
 
 
@@ -127,22 +125,10 @@ def how_many_ways(lets, one, other):
     return _ways_from(start)[start]
 
 
-def _next_place(word, counts, number):
-    """Return the place with which a way falls that has a number, and what is left of the number behind it."""
-    rest = number
-    for place in _falls(word):
-        many = counts[_sorted_at(word, place)]
-        if rest < many:
-            return place, rest
-        rest -= many
-    return None, rest
-
-
 def way_numbered(lets, one, other, number):
     """Return the shortest way ahead of which just so many are."""
     _need(lets, one, other)
-    if not is_count(number):
-        raise InvalidNumber(number)
+    need_count(number)
     word = _word(one, other)
     counts = _ways_from(word)
     if number >= counts[word]:
@@ -150,9 +136,10 @@ def way_numbered(lets, one, other, number):
     found = []
     rest = number
     while _falls(word):
-        place, rest = _next_place(word, counts, rest)
-        found.append(place)
-        word = _sorted_at(word, place)
+        places = _falls(word)
+        at, rest = picked([counts[_sorted_at(word, place)] for place in places], rest)
+        found.append(places[at])
+        word = _sorted_at(word, places[at])
     return found
 
 

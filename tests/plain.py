@@ -3,6 +3,7 @@
 A told set is a tuple (numbers, start); nothing here calls the package.
 """
 
+from functools import cache
 from itertools import permutations, product
 
 # Good sets, the lean ones first; test_lets checks with has_fault that they are what they are said to be.
@@ -177,3 +178,44 @@ def sure(orders_joined):
         (left, right) for left in range(length) for right in range(length)
         if left != right and all(place[left] < place[right] for place in places)
     ]
+
+
+def _classes(lengths):
+    for told in GOOD:
+        for length in lengths:
+            for classed in order_classes(told, length):
+                yield told, classed
+    for told, length, step in ((([], 1), 6, 9), (([1], None), 6, 13), (([], 2), 6, 29), (([2, 3], None), 6, 41)):
+        seen = set()
+        for order in orders(length)[::step]:
+            if tuple(order) not in seen:
+                classed = sorted(list(other) for other in order_class(told, order))
+                seen.update(tuple(other) for other in classed)
+                yield told, classed
+
+
+@cache
+def some_classes():
+    """All classes of small orders by all good sets, and some of longer orders: tuples of a told set and a class."""
+    return list(_classes(range(6)))
+
+
+def row_classes(told, some):
+    """All classes of some rows, each as an ascending list of lists."""
+    found, seen = [], set()
+    for row in some:
+        if tuple(row) not in seen:
+            one = sorted(list(item) for item in row_class(told, row))
+            seen.update(tuple(item) for item in one)
+            found.append(one)
+    return found
+
+
+def lots(told, length):
+    """All lots below a length, straight from all sets of counts."""
+    found = []
+    for mask in range(1 << length):
+        lot = [item for item in range(length) if mask >> item & 1]
+        if all(has(told, high - low - 1) for low in lot for high in lot if low < high):
+            found.append(lot)
+    return found

@@ -2,7 +2,12 @@
 
 import unittest
 
+from gapswaps.classcounts import (
+    classes_rest, how_many_boxes, how_many_classes, how_many_lone, is_lone, lone_number, lone_numbered,
+)
 from gapswaps.deeds import followed, led, left_between, open_places, order_done, row_done
+from gapswaps.firstlogs import class_number, class_numbered, first_row, is_first, next_class
+from gapswaps.lasts import class_last, how_many_lots, is_lot, most_last, without_last
 from gapswaps.lets import (
     Lets, both, fault, fault_row, first_apart, good, good_sets, good_to, holds_to, how_many_good, is_fault_row, lean,
     least_good, within,
@@ -22,6 +27,7 @@ from gapswaps.ways import (
     between_numbered, distance, farthest_two, how_many_between, how_many_between_at, how_many_ways, next_places,
     stands_between, turned_first, unlike_pairs, way_number, way_numbered,
 )
+from gapswaps.wishes import fewest_deeds, granted, is_wish_ring, most_granted, needed_pairs, wish_ring
 
 
 class ExamplesTest(unittest.TestCase):
@@ -166,6 +172,54 @@ class ExamplesTest(unittest.TestCase):
         self.told(
             [pieces(one, far), marks(one, far), bounds(one, far), marked(one, far, [[0], [0, 0, 1]])],
             [[([3], []), ([0, 1, 2], [4])], [[0], [0, 1, 1]], [[(0, 0)], [(0, 1), (0, 1), (0, 1)]], [3, 0, 1, 4, 2]],
+        )
+
+    def test_wishes(self):
+        one, low = Lets([1]), [5, 2, 0, 1, 4, 3]
+        self.told(
+            [granted(one, low, [(3, 0)]), granted(one, low, [(0, 3), (3, 0)]),
+             is_wish_ring(one, low, [(0, 3), (3, 0)], [0, 3]), wish_ring(one, low, [(3, 0)]),
+             is_wish_ring(one, low, [(3, 1)], [1, 4, 3])],
+            [[5, 2, 4, 3, 0, 1], None, True, None, False],
+        )
+        self.told(
+            [needed_pairs(one, low, [(3, 1)]), fewest_deeds(one, low, [(3, 1)]),
+             most_granted(one, low, [(3, 0), (0, 3), (1, 4)]), needed_pairs(one, low, [])],
+            [[(1, 3), (1, 4)], (2, [5, 2, 0, 4, 3, 1]), (2, [5, 2, 0, 1, 4, 3]), []],
+        )
+
+    def test_lasts(self):
+        one, many = Lets([1]), Lets([], 1)
+        self.told(
+            [class_last(one, [0, 0, 2]), without_last(one, [0, 0, 2], 0), without_last(one, [0, 0, 2], 1),
+             class_last(many, [0, 0, 0, 2, 4]), class_last(one, [])],
+            [[0, 2], [0, 1], None, [0, 2, 4], []],
+        )
+        self.told(
+            [how_many_lots(one, 5, 2), how_many_lots(many, 5, 2), how_many_lots(many, 5, 3), is_lot(many, 5, [0, 2, 4]),
+             most_last(many, 5), most_last(one, 2)],
+            [3, 6, 1, True, 3, 1],
+        )
+
+    def test_class_counts(self):
+        one, many, odd = Lets([1]), Lets([], 1), Lets([1, 2])
+        self.told(
+            [[how_many_classes(one, length) for length in range(6)], how_many_classes(many, 6),
+             how_many_classes(Lets([2, 3]), 7), how_many_boxes(one, 3, 0), how_many_boxes(one, 3, 1)],
+            [[1, 1, 2, 5, 16, 65], 132, 2450, 6, 1],
+        )
+        self.told(
+            [classes_rest(one, 7, 1000), classes_rest(one, 10 ** 20, 10), how_many_lone(one, 5), lone_numbered(one, 3, 2),
+             lone_number(one, [0, 1, 1]), is_lone(odd, [0, 0, 2]), how_many_lone(odd, 2)],
+            [957, 0, 34, [0, 1, 1], 2, False, 2],
+        )
+
+    def test_first_logs(self):
+        one = Lets([1])
+        self.told(
+            [first_row(one, [0, 0, 2]), is_first(one, [0, 0, 2]), class_number(one, [0, 0, 2]), class_numbered(one, 3, 2),
+             next_class(one, [0, 0, 2]), next_class(one, [0, 1, 2])],
+            [[0, 1, 0], False, 2, [0, 1, 0], [0, 1, 1], None],
         )
 
 

@@ -4,8 +4,13 @@ import time
 import unittest
 from math import comb, factorial
 
+from gapswaps.classcounts import (
+    classes_rest, how_many_boxes, how_many_classes, how_many_lone, is_lone, lone_number, lone_numbered,
+)
 from gapswaps.deeds import followed, led, left_between, open_places, order_done, row_done
 from gapswaps.errors import InvalidNumber
+from gapswaps.firstlogs import class_number, class_numbered, first_row, is_first, next_class
+from gapswaps.lasts import class_last, how_many_lots, is_lot, most_last, without_last
 from gapswaps.lets import (
     Lets, both, fault, fault_row, first_apart, good, good_sets, good_to, holds_to, how_many_good, is_fault_row, lean,
     least_good, within,
@@ -23,6 +28,7 @@ from gapswaps.ways import (
     between_numbered, distance, farthest_two, how_many_between, how_many_between_at, how_many_ways, next_places,
     stands_between, turned_first, unlike_pairs, way_number, way_numbered,
 )
+from gapswaps.wishes import fewest_deeds, granted, is_wish_ring, most_granted, needed_pairs, wish_ring
 
 SECONDS = 10
 BIG = 10 ** 29
@@ -197,6 +203,90 @@ class LimitsTest(unittest.TestCase):
             self.assertEqual([len(limits) for limits in bounds(ONE, order)], [len(first) for first, _ in found])
             highest = [[high for _, high in limits] for limits in bounds(ONE, order)]
             self.assertEqual(farthest_two(ONE, order)[1], marked(ONE, order, highest))
+
+    def test_wishes(self):
+        for lets, order in ((ONE, LINES), (MANY, FREED)):
+            far, found = farthest(lets, order)
+            wishes = [(other, one) if found.index(other) < found.index(one) else (one, other)
+                      for one, other in unlike_pairs(order, found)[::1 + far // 200]]
+            self.assertLessEqual(len(wishes), 200)
+            first = granted(lets, order, wishes)
+            least, nearest = fewest_deeds(lets, order, wishes)
+            self.assertLessEqual(first, nearest)
+            self.assertEqual(distance(lets, order, nearest), least)
+            self.assertGreaterEqual(least, len(needed_pairs(lets, order, wishes)))
+            self.assertEqual(most_granted(lets, order, wishes), (len(wishes), first))
+            self.assertIsNone(wish_ring(lets, order, wishes))
+            against = wishes[:199] + [wishes[0][::-1]]
+            ring = wish_ring(lets, order, against)
+            self.assertTrue(is_wish_ring(lets, order, against, ring))
+            self.assertIsNone(granted(lets, order, against))
+            self.assertEqual(most_granted(lets, order, [wishes[0]] * 200), (200, granted(lets, order, wishes[:1])))
+            weighed = [wish for at, wish in enumerate(wishes[:19]) for _ in range(at + 1)]
+            self.assertEqual(most_granted(lets, order, weighed)[0], len(weighed))
+
+    def test_wishes_that_make_a_long_ring(self):
+        order = list(range(199, -1, -1))
+        wishes = [(at, (at + 1) % 200) for at in range(200)]
+        self.assertTrue(is_wish_ring(ONE, order, wishes, wish_ring(ONE, order, wishes)))
+        self.assertTrue(is_wish_ring(ONE, order, wishes, list(range(200))))
+
+    def test_last_items(self):
+        for lets in (ONE, MANY, Lets([], 100)):
+            for row in ([BIG - at for at in range(200)], [2 * at for at in range(200)], [at % 7 for at in range(200)]):
+                lasts = class_last(lets, row)
+                for item in (lasts[0], lasts[-1]):
+                    self.assertEqual(class_last(lets, without_last(lets, row, item) + [item]), lasts)
+                first = first_row(lets, row)
+                self.assertIs(is_first(lets, first), True)
+                self.assertTrue(joined(lets, row, first))
+
+    def test_lots(self):
+        lean_sets = [ONE, Lets(list(range(1, 200, 3))), Lets(list(range(60, 120))), Lets(list(range(100, 199)))]
+        for lets in lean_sets:
+            pairs = sum(199 - number for number in lets.numbers() if number < 200)
+            self.assertEqual([how_many_lots(lets, 200, size) for size in range(4)], [1, 200, pairs, 0])
+            self.assertEqual(most_last(lets, 200), 2)
+        for at in range(1, 60):
+            self.assertEqual(how_many_lots(Lets([], at), 60, 2), comb(60 - at, 2))
+        # Sets the lots of which leave free many unlike counts: each lot is found by going on from shorter ones.
+        for lets in (Lets([5, 10, 11, 15, 16, 17, 20, 21, 22, 23], 30), Lets([8, 12, 16, 17, 20, 21, 24, 25, 26, 28, 29, 30], 36)):
+            self.assertTrue(good(lets))
+            lots, size = [[]], 0
+            while lots:
+                self.assertEqual(how_many_lots(lets, 60, size), len(lots))
+                lots = [lot + [item] for lot in lots for item in range(max(lot, default=-1) + 1, 60)
+                        if is_lot(lets, 60, lot + [item])]
+                size += 1
+            self.assertEqual(most_last(lets, 60), size - 1)
+
+    def test_classes(self):
+        self.assertEqual(how_many_classes(Lets([]), 200), factorial(200))
+        for lets in (ONE, Lets(list(range(1, 200, 3))), Lets(list(range(100, 199)))):
+            many = how_many_classes(lets, 200)
+            self.assertEqual(many, sum((-1) ** size * how_many_boxes(lets, 200, size) for size in range(101)))
+            for modulus in (1, 7, 1000):
+                self.assertEqual(classes_rest(lets, 200, modulus), many % modulus)
+                self.assertEqual(classes_rest(lets, 10 ** 30 - 1, modulus) < modulus, True)
+        self.assertEqual(how_many_classes(MANY, 60), factorial(120) // factorial(60) // factorial(61))
+
+    def test_lone_logs(self):
+        for lets in WIDE[2:4] + [ONE, MANY, Lets([7, 9])]:
+            many = how_many_lone(lets, 100)
+            last = lone_numbered(lets, 100, many - 1)
+            self.assertIs(is_lone(lets, last), True)
+            self.assertEqual(lone_number(lets, last), many - 1)
+            self.assertRaises(InvalidNumber, lone_numbered, lets, 100, many)
+
+    def test_class_numbers(self):
+        lean_sets = [ONE, Lets(list(range(1, 60, 3))), Lets(list(range(20, 40))), Lets(list(range(30, 60)))]
+        for lets, length in [(lets, 60) for lets in lean_sets] + [(MANY, 14), (Lets([], 2), 14), (Lets([2, 4, 5]), 14)]:
+            many = how_many_classes(lets, length)
+            last = class_numbered(lets, length, many - 1)
+            self.assertEqual(class_number(lets, last), many - 1)
+            self.assertIsNone(next_class(lets, last))
+            self.assertEqual(class_number(lets, next_class(lets, class_numbered(lets, length, many // 3))), many // 3 + 1)
+            self.assertRaises(InvalidNumber, class_numbered, lets, length, many)
 
 
 if __name__ == "__main__":

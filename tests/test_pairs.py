@@ -14,22 +14,7 @@ BIG = 10 ** 29
 NO_COUNTS = [None, True, False, -1, "0", [0], (0,), {}, Lets([1])]
 
 
-def classes(lengths=range(6)):
-    """All classes of small orders by all good sets, and some of longer orders."""
-    for told in plain.GOOD:
-        for length in lengths:
-            for classed in plain.order_classes(told, length):
-                yield told, classed
-    for told, length, step in ((([], 1), 6, 9), (([1], None), 6, 13), (([], 2), 6, 29), (([2, 3], None), 6, 41)):
-        seen = set()
-        for order in plain.orders(length)[::step]:
-            if tuple(order) not in seen:
-                classed = sorted(list(other) for other in plain.order_class(told, order))
-                seen.update(tuple(other) for other in classed)
-                yield told, classed
-
-
-ALL_CLASSES = list(classes())
+ALL_CLASSES = plain.some_classes()
 
 
 class SurePairsTest(unittest.TestCase):

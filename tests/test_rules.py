@@ -43,6 +43,11 @@ WRONG = {
     "pair": ("InvalidPairs", ANY + SETS + [[0, 4], (4, 0), (0, 1), (3, 4), (0, 4, 0), (0,), (0, 5), (False, 4)]),
     "length": ("InvalidNumber", NO_COUNTS + [6, BIG]),
     "marks": ("InvalidList", NO_ORDERS + [[], [[0]], [[0], [0, 2, 1]], ([0], [0, 0, 1])]),
+    "wishes": ("InvalidPairs", ANY + SETS + [
+        0, [(0, 0)], [(0, 5)], [[0, 1]], [(0, 1, 2)], [(0, 1), None], [(True, 0)], ((0, 1),), [(0, -1)], [(0, 1)] * 201]),
+    "lone log": ("InvalidRow", NO_LOGS + [[0, 0, 2], [0, 1, 0], [0, 0, 2, 1]]),
+    "class": ("InvalidNumber", NO_NUMBERS), "lone": ("InvalidNumber", NO_NUMBERS + [4]),
+    "modulus": ("InvalidNumber", NO_COUNTS + [0, 1001, BIG]),
     "numbers": ("InvalidList", [thing for thing in ANY] + SETS + [1, [0], [1001], [1] * 201, (1,)]),
     "start": ("InvalidNumber", [thing for thing in ANY if thing is not None] + SETS + [0, 1001, [1]]),
 }
@@ -51,6 +56,7 @@ ONE, FAR, OTHER = Lets([1]), [3, 4, 0, 1, 2], [3, 0, 1, 2, 4]
 TWO = [("good", ONE), ("order", FAR), ("order", OTHER), ("joined order", OTHER)]
 ROWS = [("good", ONE), ("row", [2, 1, 0]), ("row", [1, 3, 0])]
 PAIRS = [("good", ONE), ("order", FAR)]
+WISHES = PAIRS + [("wishes", [(0, 4), (1, 4), (3, 0)])]
 
 # For each function: its module, its arguments, and, in the order in which they are looked at, what they have to be and
 # one that is right. The kinds "alike" and "joined" look at the argument ahead again; "value" may be anything.
@@ -125,6 +131,29 @@ CALLS = [
     ("lines", "marks", "lets order", [("lean", ONE), ("order", FAR)]),
     ("lines", "bounds", "lets order", [("lean", ONE), ("order", FAR)]),
     ("lines", "marked", "lets order value", [("lean", ONE), ("order", FAR), ("marks", [[0], [0, 0, 1]])]),
+    ("wishes", "granted", "lets order wishes", WISHES),
+    ("wishes", "wish_ring", "lets order wishes", PAIRS + [("wishes", [(0, 4), (4, 0)])]),
+    ("wishes", "is_wish_ring", "lets order wishes value", WISHES + [("value", [0, 4])]),
+    ("wishes", "needed_pairs", "lets order wishes", WISHES),
+    ("wishes", "fewest_deeds", "lets order wishes", WISHES),
+    ("wishes", "most_granted", "lets order wishes", WISHES),
+    ("lasts", "class_last", "lets row", [("good", ONE), ("row", [0, 0, 2])]),
+    ("lasts", "without_last", "lets row item", [("good", ONE), ("row", [0, 0, 2]), ("count", 0)]),
+    ("lasts", "is_lot", "lets length value", [("lets", ONE), ("count", 5), ("value", [0, 2])]),
+    ("lasts", "how_many_lots", "lets length size", [("good", ONE), ("count", 5), ("count", 2)]),
+    ("lasts", "most_last", "lets length", [("good", ONE), ("count", 5)]),
+    ("classcounts", "how_many_classes", "lets length", [("good", ONE), ("count", 5)]),
+    ("classcounts", "classes_rest", "lets length modulus", [("lean", ONE), ("count", 7), ("modulus", 1000)]),
+    ("classcounts", "how_many_boxes", "lets length size", [("lets", Lets([1, 3])), ("count", 3), ("count", 1)]),
+    ("classcounts", "is_lone", "lets row", [("lets", Lets([1, 3])), ("row", [0, 0, 2])]),
+    ("classcounts", "how_many_lone", "lets length", [("lets", Lets([1, 3])), ("count", 5)]),
+    ("classcounts", "lone_number", "lets log", [("lets", ONE), ("lone log", [0, 1, 1])]),
+    ("classcounts", "lone_numbered", "lets length number", [("lets", ONE), ("count", 3), ("lone", 2)]),
+    ("firstlogs", "first_row", "lets row", [("good", ONE), ("row", [0, 0, 2])]),
+    ("firstlogs", "is_first", "lets row", [("good", ONE), ("row", [0, 0, 2])]),
+    ("firstlogs", "class_number", "lets log", [("good", ONE), ("log", [0, 0, 2])]),
+    ("firstlogs", "class_numbered", "lets length number", [("good", ONE), ("count", 3), ("class", 2)]),
+    ("firstlogs", "next_class", "lets log", [("good", ONE), ("log", [0, 0, 2])]),
 ]
 ERRORS = ("GapError InvalidNumber InvalidOrder InvalidRow InvalidLets InvalidList InvalidPlace InvalidPairs InvalidRule "
           "InvalidTree InvalidLines InvalidDeed InvalidFlag InvalidHall Unlike TooMany NothingToUndo NothingToRedo").split()
@@ -250,7 +279,8 @@ class ListsTest(unittest.TestCase):
             told = str(shown(called(module, name)(*right_arguments(kinds))))
             self.assertFalse(any(f"('{kind}'" in told for kind in ("dict", "set", "float", "frozenset", "range")), name)
         for name in ("is_order", "is_row", "is_log", "good", "lean", "good_to", "is_fault_row", "within", "joined",
-                     "is_way", "is_stop", "joined_orders", "stands_between", "turned_first", "keeps", "can_touch"):
+                     "is_way", "is_stop", "joined_orders", "stands_between", "turned_first", "keeps", "can_touch",
+                     "is_wish_ring", "is_lot", "is_lone", "is_first"):
             module, kinds = [(module, kinds) for module, other, _, kinds in CALLS if other == name][0]
             self.assertIsInstance(called(module, name)(*right_arguments(kinds)), bool, name)
 

@@ -133,14 +133,24 @@ def lean(lets):
     return not _sums(mask) & (mask | mask >> 1)
 
 
+def least_sum(lets):
+    """Return the two numbers of a set with the least sum that is in it, too, None if there are none."""
+    mask = mask_of([number for number in range(1, 2 * _end(lets) + 1) if number in lets])
+    total = min(numbers_in(_sums(mask) & mask), default=None)
+    return None if total is None else _parts_of(lets, total)
+
+
+def _parts_of(lets, total):
+    """Return the least number of a set that makes a sum with another one of it, and this one."""
+    least = min([number for number in range(1, total) if number in lets and total - number in lets])
+    return (least, total - least)
+
+
 def fault(lets):
     """Return the two numbers of the first fault of a set, None if it is good."""
     need_lets(lets)
     total = _least_fault_sum(lets)
-    if total is None:
-        return None
-    least = [number for number in lets.numbers() if total - number in lets][0]
-    return (least, total - least)
+    return None if total is None else _parts_of(lets, total)
 
 
 def good_to(lets, length):

@@ -9,15 +9,20 @@ from gapswaps.masks import (
 from gapswaps.orders import is_count, is_order, need_count, need_order
 
 
-def sure_masks(lets, order):
-    """Return, for each number, the masks of those that stand surely left and surely right of it: two lists."""
+def sure_masks(lets, order, bases=None):
+    """Return, for each number, the masks of those that stand surely left and surely right of it: two lists.
+
+    Where the order is the end of a longer one, all of whose other numbers stand where they are, bases tells, for each
+    number, how many of those are less; None stands for none.
+    """
+    under = [0] * len(order) if bases is None else bases
     left, right = [0] * len(order), [0] * len(order)
     ahead = 0
     for at, number in enumerate(order):
         # From the nearest one on: whether a pair is sure hangs on the pairs that stand between.
         for other in reversed(order[:at]):
-            counted = between_mask(other, number) & ahead & ~right[other]
-            if right[other] & left[number] or ones(counted) not in lets:
+            counted = ones(between_mask(other, number) & ahead & ~right[other]) + abs(under[number] - under[other])
+            if right[other] & left[number] or counted not in lets:
                 left[number] |= 1 << other
                 right[other] |= 1 << number
         ahead |= 1 << number

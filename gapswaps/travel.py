@@ -29,11 +29,16 @@ def _need_one(lets, row, item):
     need_count(item)
 
 
+def taken_first(lets, row, item):
+    """Return the row that is left if a number travels through a row and is found, None if it stops."""
+    behind, is_found = _journey(lets, row, item)
+    return behind + row[len(behind) + 1:] if is_found else None
+
+
 def without(lets, row, item):
     """Return the row that is left if a number travels through a row and is found, None if it stops."""
     _need_one(lets, row, item)
-    behind, is_found = _journey(lets, row, item)
-    return behind + row[len(behind) + 1:] if is_found else None
+    return taken_first(lets, row, item)
 
 
 def passed(lets, row, item):
@@ -42,7 +47,8 @@ def passed(lets, row, item):
     return len(_journey(lets, row, item)[0])
 
 
-def _need_rows(lets, one, other):
+def need_rows(lets, one, other):
+    """Refuse what is no good set, and then what are no two rows."""
     need_good(lets)
     need_row(one)
     need_row(other)
@@ -68,7 +74,7 @@ def _road(lets, row, by):
 
 def divided(lets, row, by):
     """Return the row that is left if the items of by travel through a row, one after the other; None if one stops."""
-    _need_rows(lets, row, by)
+    need_rows(lets, row, by)
     _, rest, stopped = _road(lets, row, by)
     return rest if stopped is None else None
 
@@ -89,18 +95,23 @@ def _firsts(lets, first, behind):
     return found
 
 
-def class_first(lets, row):
-    """Return the list of the counts with which rows joined to a row begin."""
-    need_good(lets)
-    need_row(row)
+def firsts_of(lets, row):
+    """Return the counts with which rows joined to a row begin, in order."""
     found = {}
     for first in reversed(row):
         found = _firsts(lets, first, found)
     return sorted(list(found))
 
 
+def class_first(lets, row):
+    """Return the list of the counts with which rows joined to a row begin."""
+    need_good(lets)
+    need_row(row)
+    return firsts_of(lets, row)
+
+
 def _need_alike(lets, one, other):
-    _need_rows(lets, one, other)
+    need_rows(lets, one, other)
     if len(one) != len(other):
         raise Unlike(other)
 

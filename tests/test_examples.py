@@ -2,17 +2,23 @@
 
 import unittest
 
+from gapswaps.beginnings import (
+    beginnings, both_left, common_beginning, common_going_on, greatest_beginning, how_many_beginnings,
+)
 from gapswaps.classcounts import (
     classes_rest, how_many_boxes, how_many_classes, how_many_lone, is_lone, lone_number, lone_numbered,
 )
 from gapswaps.deeds import followed, led, left_between, open_places, order_done, row_done
+from gapswaps.endings import both_ahead, greatest_ending, least_ended
 from gapswaps.firstlogs import class_number, class_numbered, first_row, is_first, next_class
+from gapswaps.goingson import bar, behind, both_behind, is_bar, least_going_on
 from gapswaps.lasts import class_last, how_many_lots, is_lot, most_last, without_last
 from gapswaps.lets import (
     Lets, both, fault, fault_row, first_apart, good, good_sets, good_to, holds_to, how_many_good, is_fault_row, lean,
     least_good, within,
 )
 from gapswaps.lines import bounds, marked, marks, pieces
+from gapswaps.middles import implied, is_no_middle, majority, middle, no_middle, round_of
 from gapswaps.orders import (
     cut, is_log, is_order, is_row, log_of, order_number, order_numbered, order_of, places_of,
 )
@@ -220,6 +226,61 @@ class ExamplesTest(unittest.TestCase):
             [first_row(one, [0, 0, 2]), is_first(one, [0, 0, 2]), class_number(one, [0, 0, 2]), class_numbered(one, 3, 2),
              next_class(one, [0, 0, 2]), next_class(one, [0, 1, 2])],
             [[0, 1, 0], False, 2, [0, 1, 0], [0, 1, 1], None],
+        )
+
+    def test_endings(self):
+        one, many = Lets([1]), Lets([], 1)
+        self.told(
+            [both_ahead(one, [0], [2]), both_ahead(one, [0], [1]), least_ended(one, [3, 0], [2]),
+             greatest_ending(one, [0, 0, 2], [5, 0]), greatest_ending(many, [3, 1], [7, 4])],
+            [([1], [0]), None, [1, 3, 0], [0], [4]],
+        )
+
+    def test_going_on(self):
+        one, many = Lets([1]), Lets([], 1)
+        self.told(
+            [behind(one, 2, 3), behind(one, 3, 2), behind(one, 2, 2), behind(one, 2, 4), behind(many, 2, 9)],
+            [[4], [2], [], None, [10]],
+        )
+        self.told(
+            [both_behind(one, [2], [3]), both_behind(one, [2, 0], [3]), both_behind(one, [1, 0], [1, 0]),
+             both_behind(one, [0, 0], [2]), least_going_on(one, [2, 0], [3])],
+            [([4], [2]), None, ([], []), None, None],
+        )
+        self.told(
+            [least_going_on(many, [2, 0], [3]), least_going_on(one, [2], [3]), bar(one, [2, 0], [3]),
+             is_bar(one, [2, 0], [3], (0, 0)), bar(one, [2], [3])],
+            [[2, 0, 5], [2, 4], (1, 0), False, None],
+        )
+
+    def test_beginnings(self):
+        one, many = Lets([1]), Lets([], 1)
+        self.told(
+            [greatest_beginning(one, [2, 1, 0], [1, 3, 5]), both_left(one, [2, 1, 0], [1, 3, 5]),
+             greatest_beginning(one, [0], [1]), beginnings(one, [2, 1, 0], 1)],
+            [[1, 3], ([0], [5]), [], [[1], [2]]],
+        )
+        self.told(
+            [how_many_beginnings(one, [2, 1, 0]), common_beginning(one, [[2, 1], [1, 3], [1, 4]]),
+             common_going_on(many, [[0], [1], [2]]), common_going_on(one, [[0], [2]])],
+            [6, [1], [0, 2, 4], None],
+        )
+
+    def test_middles(self):
+        one, far = Lets([1]), [3, 0, 4, 1, 2]
+        self.told(
+            [middle(one, [[3, 4, 0, 1, 2], far, [3, 0, 1, 2, 4]]), majority([[0, 1, 2], [1, 2, 0], [2, 0, 1]]),
+             round_of([[0, 1, 2], [1, 2, 0], [2, 0, 1]]), no_middle(one)],
+            [[3, 0, 4, 1, 2], None, (0, 1, 2), None],
+        )
+        self.told(
+            [is_no_middle(Lets([], 1), [[1, 3, 0, 2, 4], [1, 3, 2, 4, 0], [1, 3, 4, 0, 2]]), is_no_middle(one, []),
+             len(no_middle(Lets([], 3))[0])],
+            [True, False, 9],
+        )
+        self.told(
+            implied(one, far),
+            [(1, 4, 0, 4), (2, 4, 0, 4), (2, 4, 1, 4), (4, 0, 4, 1), (4, 0, 4, 2), (4, 1, 4, 2)],
         )
 
 

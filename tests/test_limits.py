@@ -4,18 +4,24 @@ import time
 import unittest
 from math import comb, factorial
 
+from gapswaps.beginnings import (
+    beginnings, both_left, common_beginning, common_going_on, greatest_beginning, how_many_beginnings,
+)
 from gapswaps.classcounts import (
     classes_rest, how_many_boxes, how_many_classes, how_many_lone, is_lone, lone_number, lone_numbered,
 )
 from gapswaps.deeds import followed, led, left_between, open_places, order_done, row_done
-from gapswaps.errors import InvalidNumber
+from gapswaps.endings import both_ahead, greatest_ending, least_ended
+from gapswaps.errors import InvalidNumber, TooMany
 from gapswaps.firstlogs import class_number, class_numbered, first_row, is_first, next_class
+from gapswaps.goingson import bar, behind, both_behind, is_bar, least_going_on
 from gapswaps.lasts import class_last, how_many_lots, is_lot, most_last, without_last
 from gapswaps.lets import (
     Lets, both, fault, fault_row, first_apart, good, good_sets, good_to, holds_to, how_many_good, is_fault_row, lean,
     least_good, within,
 )
 from gapswaps.lines import bounds, marked, marks, pieces
+from gapswaps.middles import implied, is_no_middle, majority, middle, no_middle, round_of
 from gapswaps.orders import cut, is_log, is_order, log_of, order_number, order_numbered, order_of, places_of
 from gapswaps.pairs import (
     can_touch, changes, class_counts, farthest, how_many_far, how_many_joined, joined_number, joined_numbered, keeps,
@@ -287,6 +293,93 @@ class LimitsTest(unittest.TestCase):
             self.assertIsNone(next_class(lets, last))
             self.assertEqual(class_number(lets, next_class(lets, class_numbered(lets, length, many // 3))), many // 3 + 1)
             self.assertRaises(InvalidNumber, class_numbered, lets, length, many)
+
+    def test_two_rows_of_100_items(self):
+        some = [[2 * at for at in range(100)], [BIG - 3 * at for at in range(100)], [at * at * 7 % 200 for at in range(100)],
+                [300 - 3 * at for at in range(100)]]
+        met = 0
+        for lets in (ONE, MANY, Lets(list(range(100, 199))), Lets([], 50)):
+            for one in some:
+                for other in some:
+                    going = both_behind(lets, one, other)
+                    if going is None:
+                        self.assertTrue(is_bar(lets, one, other, bar(lets, one, other)))
+                        self.assertIsNone(least_going_on(lets, one, other))
+                    else:
+                        met += 1
+                        self.assertIsNone(bar(lets, one, other))
+                        self.assertEqual(least_going_on(lets, one, other), one + going[0])
+                        self.assertTrue(joined(lets, one + going[0], other + going[1]))
+                    ahead = both_ahead(lets, one, other)
+                    if ahead is not None:
+                        met += 1
+                        self.assertEqual(least_ended(lets, one, other), ahead[0] + one)
+                        self.assertTrue(joined(lets, ahead[0] + one, ahead[1] + other))
+        self.assertGreater(met, 40)
+
+    def test_what_two_rows_of_100_items_share(self):
+        more, less = [2 * at for at in range(100)], [at * at * 7 % 200 for at in range(100)]
+        for lets in (ONE, MANY, Lets([], 50)):
+            for one, other in ((more, less), (more, [1] + more[:99]), (less, less[:60] + more[:40]), (more, more)):
+                found = greatest_beginning(lets, one, other)
+                left = both_left(lets, one, other)
+                self.assertTrue(joined(lets, one, found + left[0]) and joined(lets, other, found + left[1]))
+                ending = greatest_ending(lets, one, other)
+                self.assertIs(is_first(lets, ending), True)
+                self.assertIn(ending[-1:], [[item] for item in class_last(lets, one)] + [[]])
+
+    def test_all_beginnings(self):
+        row = [2 * at for at in range(11)]
+        self.assertEqual(len(beginnings(MANY, row, 5)), 462)
+        self.assertEqual(how_many_beginnings(MANY, row), 2 ** 11)
+        # Items that stand still ahead of four lines that go through one another freely, and behind them.
+        levels = Lets([42 * level + at for level in range(1, 7) for at in range(7 * level)])
+        lines = [0] * 4 + [46] * 4 + [92] * 4 + [138] * 3
+        whole = [10 ** 6] * 12 + lines + [2 * 10 ** 6] * 13
+        self.assertEqual(how_many_beginnings(levels, whole), 12 + 5 * 5 * 5 * 4 + 13)
+        for lets, row in ((levels, whole), (MANY, log_of(freed(8, 40)))):
+            counts = [len(beginnings(lets, row, length)) for length in range(41)]
+            self.assertEqual((len(row), how_many_beginnings(lets, row)), (40, sum(counts)))
+            self.assertGreater(max(counts), 50)
+            for length in (14, 20, 27, 35):
+                for found in beginnings(lets, row, length)[::9]:
+                    self.assertIsNotNone(divided(lets, row, found))
+        self.assertRaises(TooMany, beginnings, MANY, [2 * at for at in range(40)], 40)
+        self.assertRaises(TooMany, how_many_beginnings, MANY, [2 * at for at in range(40)])
+
+    def test_eight_rows(self):
+        rows = [[2 * at + 100 * number for at in range(12)] for number in range(8)]
+        found = common_going_on(MANY, rows)
+        self.assertEqual(len(found), 96)
+        for row in rows:
+            self.assertIsNotNone(divided(MANY, found, row))
+        self.assertEqual(common_beginning(MANY, [found] * 8), found)
+        self.assertEqual(common_beginning(MANY, [rows[0]] * 8), rows[0])
+
+    def test_majorities(self):
+        orders = [order_numbered(200, factorial(200) * (at * at + 1) // 9999) for at in range(99)]
+        self.assertIs(majority(orders) is None, round_of(orders) is not None)
+        self.assertEqual((majority([LINES] * 99), round_of([LINES] * 99)), (LINES, None))
+        self.assertEqual(middle(ONE, [LINES] * 99), LINES)
+        many = how_many_joined(ONE, SHORT_LINES)
+        joined_ones = [joined_numbered(ONE, SHORT_LINES, many * at // 99) for at in range(99)]
+        found = middle(ONE, joined_ones)
+        self.assertEqual(found, majority(joined_ones))
+        self.assertEqual(sum(marks(ONE, found), []), [
+            sorted(some)[49] for some in zip(*[sum(marks(ONE, order), []) for order in joined_ones])])
+
+    def test_no_middles(self):
+        for lets in (Lets([], 28), Lets([28, 29, 56, 57, 58], 84), Lets([1, 56], 58), Lets([], 1)):
+            if good(lets):
+                found = no_middle(lets)
+                self.assertLessEqual(len(found[0]), 60)
+                self.assertIs(is_no_middle(lets, found), True)
+        self.assertEqual(len(no_middle(Lets([], 28))[0]), 59)
+
+    def test_implied_pairs(self):
+        order = two_lines(6) + [13]
+        self.assertEqual(len(implied(ONE, order)), 2 * sum(at * over - 1 for at in range(1, 7) for over in range(1, 7)))
+        self.assertEqual(implied(ONE, list(range(13, -1, -1))), [])
 
 
 if __name__ == "__main__":

@@ -48,6 +48,10 @@ WRONG = {
     "lone log": ("InvalidRow", NO_LOGS + [[0, 0, 2], [0, 1, 0], [0, 0, 2, 1]]),
     "class": ("InvalidNumber", NO_NUMBERS), "lone": ("InvalidNumber", NO_NUMBERS + [4]),
     "modulus": ("InvalidNumber", NO_COUNTS + [0, 1001, BIG]),
+    "rows": ("InvalidList", ANY + SETS + [0, ([0],), [0], [[0], [-1]], [[0], None], [(0,)], [[0]] * 9, [[0] * 201], [[True]]]),
+    "some rows": ("InvalidList", ANY + SETS + [[], 0, ([0],), [0], [[0], [-1]], [[0], None], [(0,)], [[0]] * 9]),
+    "orders": ("InvalidList", ANY + SETS + [
+        [], 0, ([0],), [0], [[1]], [[0], [0]], [[0], [0], [0, 1]], [[0]] * 101, [[0], None, [0]], [(0,)], [[0, True]]]),
     "numbers": ("InvalidList", [thing for thing in ANY] + SETS + [1, [0], [1001], [1] * 201, (1,)]),
     "start": ("InvalidNumber", [thing for thing in ANY if thing is not None] + SETS + [0, 1001, [1]]),
 }
@@ -56,6 +60,9 @@ ONE, FAR, OTHER = Lets([1]), [3, 4, 0, 1, 2], [3, 0, 1, 2, 4]
 TWO = [("good", ONE), ("order", FAR), ("order", OTHER), ("joined order", OTHER)]
 ROWS = [("good", ONE), ("row", [2, 1, 0]), ("row", [1, 3, 0])]
 PAIRS = [("good", ONE), ("order", FAR)]
+ENDS = [("good", ONE), ("row", [1, 3]), ("row", [2])]
+BARRED = [("good", ONE), ("row", [2, 0]), ("row", [3])]
+NO_MIDDLE = [[1, 3, 0, 2, 4], [1, 3, 2, 4, 0], [1, 3, 4, 0, 2]]
 WISHES = PAIRS + [("wishes", [(0, 4), (1, 4), (3, 0)])]
 
 # For each function: its module, its arguments, and, in the order in which they are looked at, what they have to be and
@@ -154,6 +161,26 @@ CALLS = [
     ("firstlogs", "class_number", "lets log", [("good", ONE), ("log", [0, 0, 2])]),
     ("firstlogs", "class_numbered", "lets length number", [("good", ONE), ("count", 3), ("class", 2)]),
     ("firstlogs", "next_class", "lets log", [("good", ONE), ("log", [0, 0, 2])]),
+    ("endings", "both_ahead", "lets one other", ENDS),
+    ("endings", "least_ended", "lets one other", ENDS),
+    ("endings", "greatest_ending", "lets one other", ENDS),
+    ("goingson", "behind", "lets item other", [("good", ONE), ("count", 2), ("count", 3)]),
+    ("goingson", "both_behind", "lets one other", ENDS),
+    ("goingson", "least_going_on", "lets one other", ENDS),
+    ("goingson", "bar", "lets one other", BARRED),
+    ("goingson", "is_bar", "lets one other value", BARRED + [("value", (1, 0))]),
+    ("beginnings", "greatest_beginning", "lets one other", ROWS),
+    ("beginnings", "both_left", "lets one other", ROWS),
+    ("beginnings", "beginnings", "lets row length", [("good", ONE), ("row", [2, 1, 0]), ("number", 1)]),
+    ("beginnings", "how_many_beginnings", "lets row", [("good", ONE), ("row", [2, 1, 0])]),
+    ("beginnings", "common_going_on", "lets rows", [("good", Lets([], 1)), ("rows", [[0], [1], [2]])]),
+    ("beginnings", "common_beginning", "lets rows", [("good", ONE), ("some rows", [[2, 1], [1, 3], [1, 4]])]),
+    ("middles", "majority", "orders", [("orders", [FAR, OTHER, OTHER])]),
+    ("middles", "round_of", "orders", [("orders", [[0, 1, 2], [1, 2, 0], [2, 0, 1]])]),
+    ("middles", "middle", "lets orders", [("lean", ONE), ("orders", [FAR, OTHER, OTHER])]),
+    ("middles", "no_middle", "lets", [("good", Lets([], 1))]),
+    ("middles", "is_no_middle", "lets value", [("good", Lets([], 1)), ("value", NO_MIDDLE)]),
+    ("middles", "implied", "lets order", [("lean", ONE), ("order", FAR)]),
 ]
 ERRORS = ("GapError InvalidNumber InvalidOrder InvalidRow InvalidLets InvalidList InvalidPlace InvalidPairs InvalidRule "
           "InvalidTree InvalidLines InvalidDeed InvalidFlag InvalidHall Unlike TooMany NothingToUndo NothingToRedo").split()
@@ -280,7 +307,7 @@ class ListsTest(unittest.TestCase):
             self.assertFalse(any(f"('{kind}'" in told for kind in ("dict", "set", "float", "frozenset", "range")), name)
         for name in ("is_order", "is_row", "is_log", "good", "lean", "good_to", "is_fault_row", "within", "joined",
                      "is_way", "is_stop", "joined_orders", "stands_between", "turned_first", "keeps", "can_touch",
-                     "is_wish_ring", "is_lot", "is_lone", "is_first"):
+                     "is_wish_ring", "is_lot", "is_lone", "is_first", "is_bar", "is_no_middle"):
             module, kinds = [(module, kinds) for module, other, _, kinds in CALLS if other == name][0]
             self.assertIsInstance(called(module, name)(*right_arguments(kinds)), bool, name)
 

@@ -34,10 +34,10 @@ def both_left(lets, one, other):
 
 
 def _sized(row):
-    """Return the order of the items of a row and, for each of its numbers, how many lesser ones stand ahead of all.
+    """Return the order of a row's items by size and, for each of its numbers, how many lesser ones stand ahead of all.
 
-    So the row is the end of a log, ahead of which as many numbers stand as it needs, in order: its items are the
-    numbers that come in behind these, each one told by its rank among them and by how many of those ahead are less.
+    The row is taken for the end of a log that begins with as many ascending numbers as it needs: each item stands for a
+    number behind these, told by its rank among all such numbers and by how many of those ahead are less.
     """
     ranked, bases = [], {}
     for at, item in enumerate(row):

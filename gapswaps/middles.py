@@ -13,7 +13,7 @@ def _need_orders(orders):
     """Refuse what is no list of an odd number of orders of one length."""
     if not isinstance(orders, list) or len(orders) % 2 == 0 or len(orders) > MOST_ORDERS:
         raise InvalidList(orders)
-    if not all([is_order(order) and len(order) == len(orders[0]) for order in orders]):
+    if not all([is_order(order) for order in orders]) or any([len(order) != len(orders[0]) for order in orders]):
         raise InvalidList(orders)
 
 

@@ -10,6 +10,10 @@ from itertools import permutations, product
 LEAN = [([], None), ([1], None), ([2], None), ([3], None), ([2, 3], None), ([1, 4], None), ([4, 5, 6], None)]
 GOOD = LEAN + [([], 1), ([], 2), ([], 3), ([], 4), ([2, 4, 5], None), ([1], 4), ([3, 6, 7], None), ([2], 4)]
 NOT_GOOD = [([1, 2], None), ([1, 3], None), ([2, 4], None), ([1], 3), ([1, 2, 3], None), ([2], 5), ([3, 5, 6], None)]
+# Some of these for what takes longer, and rows for it.
+FEW = [([], None), ([1], None), ([2], None), ([1, 4], None), ([], 1), ([], 2), ([2, 4, 5], None), ([1], 4)]
+SHORT_ROWS = [[], [0], [2], [3], [0, 0], [0, 2], [1, 0], [2, 0], [2, 1], [1, 3], [3, 1], [0, 3], [4, 0]]
+LONG_ROWS = [[2, 0, 1], [1, 3, 0], [0, 2, 4], [3, 3, 0], [1, 1, 4]]
 
 
 def has(told, number):
@@ -198,6 +202,28 @@ def _classes(lengths):
 def some_classes():
     """All classes of small orders by all good sets, and some of longer orders: tuples of a told set and a class."""
     return list(_classes(range(6)))
+
+
+@cache
+def _row_class(numbers, start, row):
+    return row_class((numbers, start), list(row))
+
+
+def classed(told, row):
+    """The class of a row, kept for the next time."""
+    return _row_class(tuple(told[0]), told[1], tuple(row))
+
+
+@cache
+def some_rows():
+    """All rows of few small items, and some of more."""
+    longer = [[0, 0, 2, 4], [4, 2, 1, 0], [0, 3, 0, 3], [2, 2, 0, 0], [0, 1, 3, 6], [6, 3, 1, 0], [0, 0, 0, 2, 4]]
+    return rows(0, 0) + rows(1, 3) + rows(2, 4) + rows(3, 3) + LONG_ROWS + longer
+
+
+def row_pairs():
+    """Tuples of two short rows, one of which may be longer."""
+    return [(one, other) for one in SHORT_ROWS + LONG_ROWS for other in SHORT_ROWS if len(one) + len(other) < 5]
 
 
 def row_classes(told, some):

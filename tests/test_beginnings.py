@@ -1,7 +1,6 @@
 """[41], [42] and [43] Common beginnings."""
 
 import unittest
-from functools import cache
 from itertools import product
 from math import comb
 
@@ -15,23 +14,12 @@ from gapswaps.travel import class_first, divided, without
 
 BIG = 10 ** 29
 NO_COUNTS = [None, True, False, -1, "0", [0], (0,), {}, Lets([1])]
-SETS = [([], None), ([1], None), ([2], None), ([1, 4], None), ([], 1), ([], 2), ([2, 4, 5], None), ([1], 4)]
-ROWS = [[], [0], [2], [3], [0, 0], [0, 2], [1, 0], [2, 0], [2, 1], [1, 3], [3, 1], [0, 3]]
-LONG_ROWS = [[2, 0, 1], [1, 3, 0], [0, 2, 4], [3, 3, 0], [1, 1, 4], [0, 0, 2, 4], [4, 2, 1, 0], [2, 1, 0, 5, 3]]
-
-
-@cache
-def class_of(numbers, start, row):
-    return plain.row_class((list(numbers), start), list(row))
-
-
-def classed(told, row):
-    return class_of(tuple(told[0]), told[1], tuple(row))
+LONG_ROWS = plain.LONG_ROWS + [[0, 0, 2, 4], [4, 2, 1, 0], [2, 1, 0, 5, 3]]
 
 
 def heads(told, row, size):
     """All rows of a size that begin a row: the first items of all rows joined to it."""
-    return {item[:size] for item in classed(told, row)} if size <= len(row) else set()
+    return {item[:size] for item in plain.classed(told, row)} if size <= len(row) else set()
 
 
 def greatest_of(told, rows):
@@ -45,27 +33,27 @@ def greatest_of(told, rows):
 
 class GreatestBeginningTest(unittest.TestCase):
     def test_the_first_of_those_with_the_most_items(self):
-        for told in SETS + [([2, 3], None), ([], 3)]:
+        for told in plain.FEW + [([2, 3], None), ([], 3)]:
             lets = Lets(*told)
-            for one in ROWS + LONG_ROWS:
-                for other in ROWS + LONG_ROWS:
+            for one in plain.SHORT_ROWS + LONG_ROWS:
+                for other in plain.SHORT_ROWS + LONG_ROWS:
                     self.assertEqual(greatest_beginning(lets, one, other), greatest_of(told, [one, other]))
 
     def test_each_that_begins_both_begins_it(self):
-        for told in SETS:
+        for told in plain.FEW:
             lets = Lets(*told)
-            for one in ROWS + LONG_ROWS:
-                for other in ROWS + LONG_ROWS:
+            for one in plain.SHORT_ROWS + LONG_ROWS:
+                for other in plain.SHORT_ROWS + LONG_ROWS:
                     found = greatest_beginning(lets, one, other)
                     for size in range(min(len(one), len(other)) + 1):
                         for head in heads(told, one, size) & heads(told, other, size):
                             self.assertIn(head, heads(told, found, size))
 
     def test_what_is_left(self):
-        for told in SETS + [([2, 3], None), ([], 3)]:
+        for told in plain.FEW + [([2, 3], None), ([], 3)]:
             lets = Lets(*told)
-            for one in ROWS + LONG_ROWS:
-                for other in ROWS + LONG_ROWS:
+            for one in plain.SHORT_ROWS + LONG_ROWS:
+                for other in plain.SHORT_ROWS + LONG_ROWS:
                     found = greatest_beginning(lets, one, other)
                     left = both_left(lets, one, other)
                     self.assertEqual(left, (divided(lets, one, found), divided(lets, other, found)))
@@ -125,7 +113,7 @@ class BeginningsTest(unittest.TestCase):
     def test_all_classes_that_begin_a_row(self):
         for told in plain.GOOD:
             lets = Lets(*told)
-            for row in ROWS + LONG_ROWS + plain.logs(4)[::3] + [[0, 1, 0, 3, 2, 1], [3, 3, 0, 0, 7], [9, 0, 7, 2, 5]]:
+            for row in plain.SHORT_ROWS + LONG_ROWS + plain.logs(4)[::3] + [[0, 1, 0, 3, 2, 1], [3, 3, 0, 0, 7], [9, 0, 7, 2, 5]]:
                 many = 0
                 for length in range(len(row) + 1):
                     firsts = {min(plain.row_class(told, list(head))) for head in heads(told, row, length)}
@@ -213,7 +201,7 @@ class ManyRowsTest(unittest.TestCase):
     def test_common_going_on(self):
         some = [[[0], [1], [2]], [[0], [2], [4]], [[0, 0], [2]], [[1], [3, 0]], [[2], [0]], [[0, 2], [1, 0]], [[1, 1]],
                 [[3], [3], [3]], [[], [2]], [[0], [], [3]], [[2, 0], [0, 3]], [[1], [2], [1]]]
-        for told in SETS:
+        for told in plain.FEW:
             for rows in some:
                 expected = shortest_going_on(told, rows, range(4))
                 self.assertEqual(common_going_on(Lets(*told), rows), expected, (told, rows))
@@ -229,7 +217,7 @@ class ManyRowsTest(unittest.TestCase):
                     self.assertEqual(found, list(min(plain.row_class(told, found))))
 
     def test_going_ons_of_logs_are_logs(self):
-        for told in SETS:
+        for told in plain.FEW:
             lets = Lets(*told)
             for one in plain.logs(3) + plain.logs(2):
                 for other in plain.logs(3):
@@ -240,9 +228,9 @@ class ManyRowsTest(unittest.TestCase):
                     self.assertTrue(all(item <= at for at, item in enumerate(begun)))
 
     def test_common_beginning(self):
-        for told in SETS:
-            for one in ROWS + LONG_ROWS:
-                self.assertEqual(common_beginning(Lets(*told), [one]), list(min(classed(told, one))))
+        for told in plain.FEW:
+            for one in plain.SHORT_ROWS + LONG_ROWS:
+                self.assertEqual(common_beginning(Lets(*told), [one]), list(min(plain.classed(told, one))))
                 for other in LONG_ROWS:
                     for third in ([2, 1], [2, 0, 1], [0, 0, 2, 4]):
                         rows = [one, other, third]

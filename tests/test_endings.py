@@ -1,7 +1,6 @@
 """[37] From behind."""
 
 import unittest
-from functools import cache
 
 import plain
 from gapswaps.endings import both_ahead, greatest_ending, least_ended
@@ -10,36 +9,17 @@ from gapswaps.firstlogs import first_row
 from gapswaps.lets import Lets
 
 BIG = 10 ** 29
-SETS = [([], None), ([1], None), ([2], None), ([1, 4], None), ([], 1), ([], 2), ([2, 4, 5], None), ([1], 4)]
-ROWS = [[], [0], [2], [3], [0, 0], [0, 2], [1, 0], [2, 0], [2, 1], [1, 3], [3, 1], [0, 3], [4, 0]]
-LONG_ROWS = [[2, 0, 1], [1, 3, 0], [0, 2, 4], [3, 3, 0], [1, 1, 4]]
-
-
-@cache
-def class_of(numbers, start, row):
-    return plain.row_class((list(numbers), start), list(row))
-
-
-def classed(told, row):
-    return class_of(tuple(told[0]), told[1], tuple(row))
 
 
 def ends(told, row, other):
     """Whether other is joined to a row whose last items row is."""
-    return any(list(item[len(item) - len(row):]) == row for item in classed(told, other) if len(item) >= len(row))
+    return any(list(item[len(item) - len(row):]) == row for item in plain.classed(told, other) if len(item) >= len(row))
 
 
 def ended(told, one, other, size):
     """All rows of a size, of items that are not too great, that both rows end."""
     top = max(one + other, default=0) + 2
     return [more + one for more in plain.rows(size - len(one), top) if ends(told, other, more + one)]
-
-
-def some_pairs():
-    for one in ROWS + LONG_ROWS:
-        for other in ROWS:
-            if len(one) + len(other) < 5:
-                yield one, other
 
 
 class AheadTest(unittest.TestCase):
@@ -57,9 +37,9 @@ class AheadTest(unittest.TestCase):
                     self.assertEqual(both_ahead(lets, [one], [other]), expected)
 
     def test_no_shorter_rows_do(self):
-        for told in SETS:
+        for told in plain.FEW:
             lets = Lets(*told)
-            for one, other in some_pairs():
+            for one, other in plain.row_pairs():
                 found = both_ahead(lets, one, other)
                 least = len(one) + len(other) + 1 if found is None else len(found[0] + one)
                 for size in range(max(len(one), len(other)), least):
@@ -67,17 +47,17 @@ class AheadTest(unittest.TestCase):
                 if found is None:
                     self.assertIsNone(least_ended(lets, one, other))
                 else:
-                    self.assertIn(tuple(found[1] + other), classed(told, found[0] + one))
+                    self.assertIn(tuple(found[1] + other), plain.classed(told, found[0] + one))
                     whole = least_ended(lets, one, other)
                     self.assertEqual(len(whole), least)
                     self.assertEqual(whole[len(found[0]):], one)
-                    self.assertIn(tuple(whole), classed(told, found[0] + one))
+                    self.assertIn(tuple(whole), plain.classed(told, found[0] + one))
 
     def test_the_least_ends_each_that_both_end(self):
         met = 0
-        for told in SETS:
+        for told in plain.FEW:
             lets = Lets(*told)
-            for one, other in some_pairs():
+            for one, other in plain.row_pairs():
                 least = least_ended(lets, one, other)
                 for size in range(max(len(one), len(other)), 5 if max(one + other, default=0) < 3 else 4):
                     for row in ended(told, one, other, size)[::3]:
@@ -86,11 +66,11 @@ class AheadTest(unittest.TestCase):
         self.assertGreater(met, 1000)
 
     def test_rows_cancel_from_behind(self):
-        for told in SETS:
+        for told in plain.FEW:
             for one in plain.rows(2, 4):
                 for other in plain.rows(2, 4):
                     for more in ([0], [3], [1, 3]):
-                        self.assertIs(tuple(other + more) in classed(told, one + more), tuple(other) in classed(told, one))
+                        self.assertIs(tuple(other + more) in plain.classed(told, one + more), tuple(other) in plain.classed(told, one))
 
     def test_edges(self):
         many = Lets([], 1)
@@ -106,13 +86,13 @@ class AheadTest(unittest.TestCase):
 
 class GreatestEndingTest(unittest.TestCase):
     def test_the_first_row_of_those_with_the_most_items(self):
-        for told in SETS + [([2, 3], None), ([], 3)]:
+        for told in plain.FEW + [([2, 3], None), ([], 3)]:
             lets = Lets(*told)
-            for one in ROWS + LONG_ROWS:
-                for other in ROWS + LONG_ROWS:
+            for one in plain.SHORT_ROWS + plain.LONG_ROWS:
+                for other in plain.SHORT_ROWS + plain.LONG_ROWS:
                     found = greatest_ending(lets, one, other)
                     tails = [
-                        {item[len(item) - size:] for item in classed(told, row)}
+                        {item[len(item) - size:] for item in plain.classed(told, row)}
                         for row, size in ((row, size) for row in (one, other) for size in (len(found), len(found) + 1))
                         if size <= len(row)
                     ]
@@ -122,14 +102,14 @@ class GreatestEndingTest(unittest.TestCase):
                     self.assertEqual(first_row(lets, found), found)
 
     def test_each_that_ends_both_ends_it(self):
-        for told in SETS:
+        for told in plain.FEW:
             lets = Lets(*told)
-            for one in ROWS + LONG_ROWS:
-                for other in ROWS + LONG_ROWS:
+            for one in plain.SHORT_ROWS + plain.LONG_ROWS:
+                for other in plain.SHORT_ROWS + plain.LONG_ROWS:
                     found = greatest_ending(lets, one, other)
                     for size in range(min(len(one), len(other)) + 1):
-                        tails = {item[len(item) - size:] for item in classed(told, one)}
-                        for tail in tails & {item[len(item) - size:] for item in classed(told, other)}:
+                        tails = {item[len(item) - size:] for item in plain.classed(told, one)}
+                        for tail in tails & {item[len(item) - size:] for item in plain.classed(told, other)}:
                             self.assertTrue(ends(told, list(tail), found))
 
     def test_edges(self):

@@ -10,8 +10,6 @@ from gapswaps.lets import Lets
 
 BIG = 10 ** 29
 NO_COUNTS = [None, True, False, -1, "0", [0], (0,), {}, Lets([1])]
-ROWS = plain.rows(0, 0) + plain.rows(1, 3) + plain.rows(2, 4) + plain.rows(3, 3)
-LONG_ROWS = [[0, 0, 2, 4], [4, 2, 1, 0], [0, 3, 0, 3], [1, 3, 5, 0], [2, 2, 0, 0], [0, 1, 3, 6], [6, 3, 1, 0], [0, 0, 0, 2, 4]]
 
 
 def first_of(classed):
@@ -23,7 +21,7 @@ class FirstRowsTest(unittest.TestCase):
     def test_least_from_behind(self):
         for told in plain.GOOD:
             lets = Lets(*told)
-            for row in ROWS + LONG_ROWS:
+            for row in plain.some_rows():
                 first = list(first_of(plain.row_class(told, row)))
                 self.assertEqual(first_row(lets, row), first)
                 self.assertIs(is_first(lets, row), row == first)

@@ -1,7 +1,6 @@
 """[38], [39] and [40] What goes on behind two rows."""
 
 import unittest
-from functools import cache
 
 import plain
 from gapswaps.errors import InvalidLets, InvalidNumber, InvalidRow
@@ -10,36 +9,17 @@ from gapswaps.lets import Lets
 
 BIG = 10 ** 29
 NO_COUNTS = [None, True, False, -1, "0", [0], (0,), {}, Lets([1])]
-SETS = [([], None), ([1], None), ([2], None), ([1, 4], None), ([], 1), ([], 2), ([2, 4, 5], None), ([1], 4)]
-ROWS = [[], [0], [2], [3], [0, 0], [0, 2], [1, 0], [2, 0], [2, 1], [1, 3], [3, 1], [0, 3]]
-LONG_ROWS = [[2, 0, 1], [1, 3, 0], [0, 2, 4], [3, 3, 0], [1, 1, 4]]
-
-
-@cache
-def class_of(numbers, start, row):
-    return plain.row_class((list(numbers), start), list(row))
-
-
-def classed(told, row):
-    return class_of(tuple(told[0]), told[1], tuple(row))
 
 
 def begins(told, row, other):
     """Whether other is joined to a row whose first items row is."""
-    return any(list(item[:len(row)]) == row for item in classed(told, other))
+    return any(list(item[:len(row)]) == row for item in plain.classed(told, other))
 
 
 def going_ons(told, one, other, size):
     """All rows of a size, of items that are not too great, that both rows begin."""
     top = max(one + other, default=0) + len(one) + len(other)
     return [one + more for more in plain.rows(size - len(one), top) if begins(told, other, one + more)]
-
-
-def some_pairs():
-    for one in ROWS + LONG_ROWS:
-        for other in ROWS:
-            if len(one) + len(other) < 5:
-                yield one, other
 
 
 class BehindTest(unittest.TestCase):
@@ -71,24 +51,24 @@ class BehindTest(unittest.TestCase):
 
 class BothBehindTest(unittest.TestCase):
     def test_no_shorter_rows_do(self):
-        for told in SETS:
+        for told in plain.FEW:
             lets = Lets(*told)
-            for one, other in some_pairs():
+            for one, other in plain.row_pairs():
                 found = both_behind(lets, one, other)
                 least = len(one) + len(other) + 1 if found is None else len(one + found[0])
                 for size in range(max(len(one), len(other)), least):
                     self.assertEqual(going_ons(told, one, other, size), [], (told, one, other))
                 if found is not None:
-                    self.assertIn(tuple(other + found[1]), classed(told, one + found[0]))
+                    self.assertIn(tuple(other + found[1]), plain.classed(told, one + found[0]))
                     self.assertEqual(least_going_on(lets, one, other), one + found[0])
                 else:
                     self.assertIsNone(least_going_on(lets, one, other))
 
     def test_the_least_going_on_begins_each_common_one(self):
         met = 0
-        for told in SETS:
+        for told in plain.FEW:
             lets = Lets(*told)
-            for one, other in some_pairs():
+            for one, other in plain.row_pairs():
                 least = least_going_on(lets, one, other)
                 for size in range(max(len(one), len(other)), 5 if max(one + other, default=0) < 3 else 4):
                     for row in going_ons(told, one, other, size)[::3]:
@@ -99,8 +79,8 @@ class BothBehindTest(unittest.TestCase):
     def test_joined_rows_have_nothing_behind(self):
         for told in plain.GOOD:
             lets = Lets(*told)
-            for one in ROWS + LONG_ROWS:
-                for other in ROWS + LONG_ROWS:
+            for one in plain.SHORT_ROWS + plain.LONG_ROWS:
+                for other in plain.SHORT_ROWS + plain.LONG_ROWS:
                     joined = tuple(other) in plain.row_class(told, one)
                     self.assertIs(both_behind(lets, one, other) == ([], []), joined)
                 for other in plain.row_class(told, one):
@@ -128,8 +108,8 @@ class BarTest(unittest.TestCase):
     def test_bars(self):
         for told in plain.GOOD:
             lets = Lets(*told)
-            for one in ROWS + LONG_ROWS:
-                for other in ROWS + LONG_ROWS:
+            for one in plain.SHORT_ROWS + plain.LONG_ROWS:
+                for other in plain.SHORT_ROWS + plain.LONG_ROWS:
                     found = bar(lets, one, other)
                     self.assertIs(found is None, least_going_on(lets, one, other) is not None)
                     bars = [

@@ -10,8 +10,6 @@ from gapswaps.lets import Lets
 
 BIG = 10 ** 29
 NO_COUNTS = [None, True, False, -1, "0", [0], (0,), {}, Lets([1])]
-ROWS = plain.rows(0, 0) + plain.rows(1, 3) + plain.rows(2, 4) + plain.rows(3, 3)
-LONG_ROWS = [[0, 0, 2, 4], [4, 2, 1, 0], [0, 3, 0, 3], [1, 3, 5, 0], [2, 2, 0, 0], [0, 1, 3, 6], [6, 3, 1, 0], [0, 0, 0, 2, 4]]
 
 
 def travel_back(told, row, item):
@@ -35,14 +33,14 @@ class LastItemsTest(unittest.TestCase):
     def test_class_last(self):
         for told in plain.GOOD:
             lets = Lets(*told)
-            for row in ROWS + LONG_ROWS:
+            for row in plain.some_rows():
                 lasts = sorted(set(other[-1] for other in plain.row_class(told, row) if other))
                 self.assertEqual(class_last(lets, row), lasts)
 
     def test_without_last(self):
         for told in plain.GOOD:
             lets = Lets(*told)
-            for row in ROWS + LONG_ROWS:
+            for row in plain.some_rows():
                 classed = plain.row_class(told, row)
                 for item in range(8):
                     left = without_last(lets, row, item)

@@ -369,12 +369,10 @@ class LimitsTest(unittest.TestCase):
             sorted(some)[49] for some in zip(*[sum(marks(ONE, order), []) for order in joined_ones])])
 
     def test_no_middles(self):
-        for lets in (Lets([], 28), Lets([28, 29, 56, 57, 58], 84), Lets([1, 56], 58), Lets([], 1)):
-            if good(lets):
-                found = no_middle(lets)
-                self.assertLessEqual(len(found[0]), 60)
-                self.assertIs(is_no_middle(lets, found), True)
-        self.assertEqual(len(no_middle(Lets([], 28))[0]), 59)
+        for lets, length in ((Lets([], 28), 59), (Lets([28, 56, 57]), 59), (Lets([1], 56), 60), (MANY, 5)):
+            found = no_middle(lets)
+            self.assertEqual([len(order) for order in found], [length] * 3)
+            self.assertIs(is_no_middle(lets, found), True)
 
     def test_implied_pairs(self):
         order = two_lines(6) + [13]

@@ -68,7 +68,7 @@ class MajorityTest(unittest.TestCase):
     def test_wrong_lists(self):
         wrong = [None, True, 0, "", (), ([0],), {}, [], [0], [None], [[0], [0]], [[0]] * 101, [[0]] * 100, [[1]], [[0, 0]],
                  [[0], [0, 1], [0]], [[0, 1], [0, 1], [0]], [[0, True]], [(0, 1)], [[0, 1], [1, 0], None], Lets([1]),
-                 [list(range(201))], [[[0]]], [["0"]]]
+                 [list(range(201))], [[[0]]], [["0"]], [0, [0], [0]], [None, [0], [0]], [True, [], []], [[0], [0], 0]]
         for orders in wrong:
             for asked in (majority, round_of, lambda told: middle(Lets([1]), told)):
                 with self.assertRaises(InvalidList) as caught:

@@ -48,10 +48,10 @@ WRONG = {
     "lone log": ("InvalidRow", NO_LOGS + [[0, 0, 2], [0, 1, 0], [0, 0, 2, 1]]),
     "class": ("InvalidNumber", NO_NUMBERS), "lone": ("InvalidNumber", NO_NUMBERS + [4]),
     "modulus": ("InvalidNumber", NO_COUNTS + [0, 1001, BIG]),
-    "rows": ("InvalidList", ANY + SETS + [0, ([0],), [0], [[0], [-1]], [[0], None], [(0,)], [[0]] * 9, [[0] * 201], [[True]]]),
+    "rows": ("InvalidList", ANY + SETS + [0, ([0],), [0], [[0], [-1]], [[0], None], [None, [0]], [(0,)], [[0]] * 9, [[0] * 201], [[True]]]),
     "some rows": ("InvalidList", ANY + SETS + [[], 0, ([0],), [0], [[0], [-1]], [[0], None], [(0,)], [[0]] * 9]),
     "orders": ("InvalidList", ANY + SETS + [
-        [], 0, ([0],), [0], [[1]], [[0], [0]], [[0], [0], [0, 1]], [[0]] * 101, [[0], None, [0]], [(0,)], [[0, True]]]),
+        [], 0, ([0],), [0], [[1]], [[0], [0]], [[0], [0], [0, 1]], [[0]] * 101, [[0], None, [0]], [None, [0], [0]], [(0,)], [[0, True]]]),
     "numbers": ("InvalidList", [thing for thing in ANY] + SETS + [1, [0], [1001], [1] * 201, (1,)]),
     "start": ("InvalidNumber", [thing for thing in ANY if thing is not None] + SETS + [0, 1001, [1]]),
 }

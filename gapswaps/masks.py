@@ -150,38 +150,42 @@ def _gain(mask, told):
 
 
 def best_kept(left, gains):
-    """Return the greatest gain of an order that keeps left, and the first order that has it.
+    """Return the greatest gain of an order that keeps left, how many orders have it, and the first of these.
 
     The gain is the sum, over all items, of what the tuples of gains for an item tell of those that stand ahead of it.
     """
     table = begun_sets(left)
-    best = {}
+    best, kept, many = {}, {}, {}
     for mask in reversed(list(table)):
-        best[mask] = max([_gain(mask, gains[item]) + best[mask | 1 << item] for item in table[mask]], default=0)
+        worths = [_gain(mask, gains[item]) + best[mask | 1 << item] for item in table[mask]]
+        best[mask] = max(worths, default=0)
+        kept[mask] = [item for item, worth in zip(table[mask], worths) if worth == best[mask]]
+        many[mask] = sum([many[mask | 1 << item] for item in kept[mask]]) if worths else 1
     found, mask = [], 0
-    while table[mask]:
-        kept = [item for item in table[mask] if _gain(mask, gains[item]) + best[mask | 1 << item] == best[mask]]
-        found.append(kept[0])
-        mask |= 1 << kept[0]
-    return best[0], found
+    while kept[mask]:
+        found.append(kept[mask][0])
+        mask |= 1 << found[-1]
+    return best[0], many[0], found
 
 
 def _turned_kept(left, order, sign):
     """Return the greatest number of pairs that an order that keeps left has the other way about than an order.
 
-    The first order that has so many stands behind it. With -1 as the sign, it is the least number instead.
+    How many orders have so many, and the first of these, stand behind it. With -1 as the sign, it is the least number
+    instead.
     """
-    kept, found = best_kept(left, [[(-sign, ahead)] for ahead in ahead_masks(order)])
-    return len(order) * (len(order) - 1) // 2 + sign * kept, found
+    kept, many, found = best_kept(left, [[(-sign, ahead)] for ahead in ahead_masks(order)])
+    return len(order) * (len(order) - 1) // 2 + sign * kept, many, found
 
 
 def farthest_kept(left, order):
     """Return the most pairs that an order that keeps left has the other way about, and the first with so many."""
-    return _turned_kept(left, order, 1)
+    pairs, _, found = _turned_kept(left, order, 1)
+    return pairs, found
 
 
 def nearest_kept(left, order):
-    """Return the fewest pairs that an order that keeps left has the other way about, and the first with so few."""
+    """Return the fewest pairs that orders that keep left have the other way about, how many do, and the first."""
     return _turned_kept(left, order, -1)
 
 
@@ -211,4 +215,30 @@ def closed_masks(left):
     for number in range(len(found)):
         over = found[number]
         found = [mask | over if mask >> number & 1 else mask for mask in found]
+    return found
+
+
+def sure_by(order, may_change):
+    """Return, for each number, the masks of those that stand surely left and surely right of it: two lists.
+
+    may_change tells of two numbers and a mask whether they may change places where just its numbers stand left of
+    both; it may take no heed of the two themselves.
+    """
+    left, right = [0] * len(order), [0] * len(order)
+    ahead = 0
+    for at, number in enumerate(order):
+        # From the nearest one on: whether a pair is sure hangs on the pairs that stand between.
+        for other in reversed(order[:at]):
+            if right[other] & left[number] or not may_change(other, number, ahead & ~right[other]):
+                left[number] |= 1 << other
+                right[other] |= 1 << number
+        ahead |= 1 << number
+    return left, right
+
+
+def parts_of(mask):
+    """Return the list of all masks of some numbers of a mask, or of none."""
+    found = [0]
+    for number in numbers_in(mask):
+        found = found + [part | 1 << number for part in found]
     return found

@@ -4,7 +4,7 @@ from gapswaps.errors import InvalidNumber
 from gapswaps.lets import need_good
 from gapswaps.masks import (
     between_mask, farthest_kept, first_behind, how_many_at, how_many_keep, is_kept, mask_of, next_behind, number_among,
-    numbered_among, numbers_in, ones,
+    numbered_among, numbers_in, ones, sure_by,
 )
 from gapswaps.orders import is_count, is_order, need_count, need_order
 
@@ -16,17 +16,11 @@ def sure_masks(lets, order, bases=None):
     number, how many of those are less; None stands for none.
     """
     under = [0] * len(order) if bases is None else bases
-    left, right = [0] * len(order), [0] * len(order)
-    ahead = 0
-    for at, number in enumerate(order):
-        # From the nearest one on: whether a pair is sure hangs on the pairs that stand between.
-        for other in reversed(order[:at]):
-            counted = ones(between_mask(other, number) & ahead & ~right[other]) + abs(under[number] - under[other])
-            if right[other] & left[number] or counted not in lets:
-                left[number] |= 1 << other
-                right[other] |= 1 << number
-        ahead |= 1 << number
-    return left, right
+
+    def may_change(one, other, ahead):
+        return ones(between_mask(one, other) & ahead) + abs(under[one] - under[other]) in lets
+
+    return sure_by(order, may_change)
 
 
 def loose_masks(left, right):

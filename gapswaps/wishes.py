@@ -86,7 +86,10 @@ def needed_pairs(lets, order, wishes):
 def fewest_deeds(lets, order, wishes):
     """Return the least distance of a joined order that grants all wishes, and the first that has it, or None."""
     left = _closed_left(lets, order, wishes)
-    return None if left is None else nearest_kept(left, order)
+    if left is None:
+        return None
+    far, _, found = nearest_kept(left, order)
+    return far, found
 
 
 def _gains(order, wishes):
@@ -104,4 +107,5 @@ def most_granted(lets, order, wishes):
     """Return the greatest number of wishes that a joined order grants, and the first order that grants so many."""
     _need(lets, order, wishes)
     left, _ = sure_masks(lets, order)
-    return best_kept(left, _gains(order, wishes))
+    many, _, found = best_kept(left, _gains(order, wishes))
+    return many, found

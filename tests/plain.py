@@ -4,7 +4,7 @@ A told set is a tuple (numbers, start); nothing here calls the package.
 """
 
 from functools import cache
-from itertools import permutations, product
+from itertools import combinations, permutations, product
 
 # Good sets, the lean ones first; test_lets checks with has_fault that they are what they are said to be.
 LEAN = [([], None), ([1], None), ([2], None), ([3], None), ([2, 3], None), ([1, 4], None), ([4, 5, 6], None)]
@@ -244,4 +244,109 @@ def lots(told, length):
         lot = [item for item in range(length) if mask >> item & 1]
         if all(has(told, high - low - 1) for low in lot for high in lot if low < high):
             found.append(lot)
+    return found
+
+
+# Trees are told by their links, and a told rule is a tuple (links, table), the table a set of (low, high, frozenset).
+TREES = [
+    [], [(0, 1)], [(0, 1), (1, 2)], [(0, 1), (0, 2)], [(0, 2), (1, 2)], [(0, 1), (1, 2), (2, 3)],
+    [(0, 1), (0, 2), (0, 3)], [(0, 3), (1, 3), (2, 3)], [(0, 2), (0, 3), (1, 3)], [(0, 3), (1, 2), (1, 3)],
+]
+WIDER_TREES = [
+    [(0, 1), (1, 2), (2, 3), (3, 4)], [(0, 1), (0, 2), (0, 3), (0, 4)], [(0, 4), (1, 2), (2, 4), (3, 4)],
+    [(0, 3), (1, 3), (2, 4), (3, 4)],
+]
+
+
+def tree_way(links, one, other):
+    """The numbers from one to the other, as they are linked, by trying all ways."""
+    ways = [[one]]
+    while ways:
+        way = ways.pop()
+        if way[-1] == other:
+            return way
+        for link in links:
+            if way[-1] in link:
+                number = link[1] if link[0] == way[-1] else link[0]
+                if number not in way:
+                    ways.append(way + [number])
+    return None
+
+
+def tree_between(links, one, other):
+    return sorted(tree_way(links, one, other)[1:-1])
+
+
+def subsets(numbers):
+    return [list(part) for size in range(len(numbers) + 1) for part in combinations(numbers, size)]
+
+
+def tree_lets(links):
+    """All lets of a tree, in order."""
+    return sorted((low, high, lot) for low, high in pairs(len(links) + 1) for lot in subsets(tree_between(links, low, high)))
+
+
+def told_rule(links, items):
+    return (links, {(low, high, frozenset(lot)) for low, high, lot in items})
+
+
+def rule_has(told, one, other, left):
+    """Whether two numbers may change places where just those of left are left of both."""
+    links, table = told
+    low, high = min(one, other), max(one, other)
+    return (low, high, frozenset(left) & frozenset(tree_between(links, low, high))) in table
+
+
+def rule_faults(told):
+    """All faults of a rule, in order, straight from the words."""
+    found = []
+    for low, high in pairs(len(told[0]) + 1):
+        over = tree_between(told[0], low, high)
+        for middle in over:
+            for lot in subsets([number for number in over if number != middle]):
+                if rule_has(told, low, middle, lot) and rule_has(told, middle, high, lot):
+                    if rule_has(told, low, high, lot) != rule_has(told, low, high, lot + [middle]):
+                        found.append((low, middle, high, lot))
+    return sorted(found)
+
+
+@cache
+def _rules(links):
+    items = tree_lets(list(links))
+    return [[item for at, item in enumerate(items) if mask >> at & 1] for mask in range(1 << len(items))]
+
+
+def rules(links):
+    """The lists of lets of all rules of a small tree."""
+    return _rules(tuple(links))
+
+
+@cache
+def _even_rules(links):
+    return [items for items in rules(links) if not rule_faults(told_rule(list(links), items))]
+
+
+def even_rules(links):
+    """The lists of lets of all even rules of a small tree."""
+    return _even_rules(tuple(links))
+
+
+def rule_deeds(told, order):
+    """The list of (place, order behind) of all deeds that a rule lets."""
+    return [(at, swapped(order, at)) for at in range(len(order) - 1)
+            if rule_has(told, order[at], order[at + 1], order[:at])]
+
+
+def rule_class(told, order):
+    return reached(rule_deeds, told, order)
+
+
+def rule_classes(told):
+    """All classes of orders joined by a rule, each as an ascending list of lists."""
+    found, seen = [], set()
+    for order in orders(len(told[0]) + 1):
+        if tuple(order) not in seen:
+            one = sorted(list(item) for item in rule_class(told, order))
+            seen.update(tuple(item) for item in one)
+            found.append(one)
     return found

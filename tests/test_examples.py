@@ -12,6 +12,7 @@ from gapswaps.deeds import followed, led, left_between, open_places, order_done,
 from gapswaps.endings import both_ahead, greatest_ending, least_ended
 from gapswaps.firstlogs import class_number, class_numbered, first_row, is_first, next_class
 from gapswaps.goingson import bar, behind, both_behind, is_bar, least_going_on
+from gapswaps.hall import Hall, is_why_not, places, sure, sure_since, towards, why_not
 from gapswaps.lasts import class_last, how_many_lots, is_lot, most_last, without_last
 from gapswaps.lets import (
     Lets, both, fault, fault_row, first_apart, good, good_sets, good_to, holds_to, how_many_good, is_fault_row, lean,
@@ -19,6 +20,8 @@ from gapswaps.lets import (
 )
 from gapswaps.lines import bounds, marked, marks, pieces
 from gapswaps.middles import implied, is_no_middle, majority, middle, no_middle, round_of
+from gapswaps.nearest import nearest
+from gapswaps.needs import core, fitting, follows, joins_more, least_joining, needed, pair_counts, stretch
 from gapswaps.orders import (
     cut, is_log, is_order, is_row, log_of, order_number, order_numbered, order_of, places_of,
 )
@@ -26,13 +29,19 @@ from gapswaps.pairs import (
     can_touch, changes, class_counts, farthest, how_many_far, how_many_joined, joined_number, joined_numbered, keeps,
     loose_pairs, next_joined, next_pairs, places_for, sure_pairs,
 )
+from gapswaps.texts import read_sheet, sheet_text, wrong_line
 from gapswaps.travel import (
     class_first, divided, is_stop, is_way, joined, joined_orders, order_way, passed, stop, way, without,
 )
+from gapswaps.trees import Tree, between, chain
 from gapswaps.ways import (
     between_numbered, distance, farthest_two, how_many_between, how_many_between_at, how_many_ways, next_places,
     stands_between, turned_first, unlike_pairs, way_number, way_numbered,
 )
+from gapswaps.wideclasses import first_lots, how_many_wide_classes, how_many_wide_joined, kept_pairs
+from gapswaps.widejoining import is_answer, least_wide_joining, rule_joined, rule_led, rule_places
+from gapswaps.widerules import WideRule, even_above, first_fault, is_even, rule_by_counts, shared
+from gapswaps.wideways import ends, on_way
 from gapswaps.wishes import fewest_deeds, granted, is_wish_ring, most_granted, needed_pairs, wish_ring
 
 
@@ -281,6 +290,100 @@ class ExamplesTest(unittest.TestCase):
         self.told(
             implied(one, far),
             [(1, 4, 0, 4), (2, 4, 0, 4), (2, 4, 1, 4), (4, 0, 4, 1), (4, 0, 4, 2), (4, 1, 4, 2)],
+        )
+
+    def test_nearest(self):
+        one, far = Lets([1]), [3, 0, 4, 1, 2]
+        self.told(
+            [nearest(one, far, [4, 3, 2, 1, 0]), nearest(one, far, far)],
+            [(4, 1, [3, 4, 0, 1, 2]), (0, 1, [3, 0, 4, 1, 2])],
+        )
+
+    def test_wide_rules(self):
+        three, star = chain(3), Tree([(0, 1), (0, 2), (0, 3)])
+        ones, bent = rule_by_counts(three, Lets([1])), WideRule(three, [(0, 1, []), (0, 2, [1]), (1, 2, [])])
+        self.told(
+            [three.links(), between(three, 2, 0), between(star, 1, 3), ones.lets(),
+             [item[:2] for item in rule_by_counts(star, Lets([1])).lets()]],
+            [[(0, 1), (1, 2)], [1], [0], [(0, 2, [1])], [(1, 2), (1, 3), (2, 3)]],
+        )
+        self.told(
+            [is_even(ones), is_even(bent), first_fault(bent), even_above(bent).lets(), shared(ones, bent) == ones],
+            [True, False, (0, 1, 2, []), [(0, 1, []), (0, 2, []), (0, 2, [1]), (1, 2, [])], True],
+        )
+        # Any answer may be told; here there is but one.
+        self.told(
+            [rule_places(ones, [1, 0, 2]), rule_led(ones, [1, 0, 2], [1]), rule_joined(ones, [1, 0, 2], [1, 2, 0]),
+             rule_joined(ones, [0, 1, 2], [1, 0, 2])],
+            [[1], [1, 2, 0], ("joined", [1]), ("barred", [], 0)],
+        )
+        self.told(
+            [ends(star), on_way(rule_by_counts(star, Lets([1])), [1, 0, 2, 3], 1, 3) == (ones, [0, 1, 2]),
+             is_answer(ones, [0, 1, 2], [2, 1, 0], ("barred", [], 1)),
+             least_wide_joining(ones, [0, 1, 2], [1, 0, 2]).lets()],
+            [[1, 2, 3], True, True, [(0, 1, []), (0, 2, [1])]],
+        )
+        self.told(
+            [kept_pairs(ones, [1, 0, 2]), how_many_wide_joined(ones, [1, 0, 2]), first_lots(ones, [1]),
+             how_many_wide_classes(ones, []), how_many_wide_classes(ones, [1])],
+            [[(1, 0), (1, 2)], 2, [[0], [0, 2], [2]], 5, 1],
+        )
+
+    def test_needs(self):
+        self.told(
+            [pair_counts([3, 4, 0, 1, 2], [3, 0, 1, 2, 4]), needed([3, 4, 0, 1, 2], [3, 0, 1, 2, 4]),
+             needed([0, 1], [1, 0]), needed([1, 0, 2], [1, 0, 2])],
+            [[(0, 4, 1, 1), (1, 4, 1, 1), (2, 4, 1, 1)], [1], [0], []],
+        )
+        pair = ([1, 0, 2], [1, 2, 0])
+        self.told(
+            [needed(pair[0], pair[1]), least_joining([pair]) == Lets([1]), least_joining([([0, 1], [1, 0])]),
+             least_joining([]) == Lets([])],
+            [[1], True, None, True],
+        )
+        far = ([1, 2, 0, 3], [1, 2, 3, 0])
+        self.told(
+            [least_joining([pair, far]) == Lets([], 1), follows([pair, far], [1, 2, 3, 0, 4], [1, 2, 3, 4, 0]),
+             follows([pair], far[0], far[1]), fitting([pair], [far]) == Lets([1]),
+             fitting([pair, far], [([1, 2, 3, 0, 4], [1, 2, 3, 4, 0])])],
+            [True, True, False, True, None],
+        )
+        self.told([joins_more(Lets([], 2), Lets([], 1)), len(joins_more(Lets([], 1), Lets([1]))[0])], [None, 4])
+        self.told(
+            [stretch([3, 0, 4, 1, 2], 1, 3), core(Lets([1]), [0, 1], [1, 0]),
+             core(Lets([1]), [1, 2, 0, 3], [1, 2, 3, 0]), core(Lets([2]), [1, 2, 0, 3], [1, 2, 3, 0])],
+            [[2, 0, 1], (0, 1), (0, 3), None],
+        )
+
+    def test_texts(self):
+        self.told(
+            [sheet_text(Lets([2, 1]), [[0, 3], []]), sheet_text(Lets([2], 4), []),
+             read_sheet("lets 5 5 2 from 4 # good\n\n row  1 0")[0] == Lets([2], 4), read_sheet("lets\n")[1]],
+            ["lets 1 2\nrow 0 3\nrow\n", "lets 2 from 4\n", True, []],
+        )
+        self.told(
+            [wrong_line("lets 1\nrow 1 -1\n"), wrong_line("# none\n"), wrong_line("lets from 0"),
+             wrong_line("lets 1\nlets 1\n"), wrong_line("lets from 3")],
+            [2, 2, 1, 2, None],
+        )
+
+    def test_hall(self):
+        hall = Hall(Lets([1]))
+        self.told(
+            [hall.together([("enter", 0), ("enter", 1), ("enter", 0), ("enter", 1), ("enter", 2)]), hall.order,
+             sure(hall), places(hall, 1)],
+            [[0, 1, 2, 3, 4], [3, 4, 0, 1, 2], [(0, 1), (0, 2), (0, 3), (0, 4), (2, 3), (2, 4), (3, 4)], (1, 4)],
+        )
+        self.told(
+            [hall.promise(3, 1), hall.promises, towards(hall)[:2], why_not(hall, 1, 2), why_not(hall, 4, 1),
+             why_not(hall, 3, 2), places(hall, 1)],
+            [None, [(3, 1)], [1, 2], [2, 3, 1], None, [2, 3], (3, 4)],
+        )
+        self.assertIs(is_why_not(hall, 1, 2, [2, 3, 1]), True)
+        self.told(
+            [hall.change(1), hall.people, hall.undo(), hall.people, hall.together([("release", 3, 1)], keep=False),
+             hall.promises, sure_since(hall, 0, 1), sure_since(hall, 0, 4)],
+            [None, [0, 2, 1, 3, 4], None, [0, 1, 2, 3, 4], [0, 1, 2, 3, 4], [(3, 1)], 2, 5],
         )
 
 

@@ -11,7 +11,7 @@ from pathlib import Path
 PACKAGE = Path(__file__).resolve().parent.parent / "gapswaps"
 BUILTINS = (
     "len range enumerate zip min max sum abs sorted reversed int str bool bytes list tuple dict set isinstance ord repr "
-    "any all divmod pow map next iter ValueError TypeError KeyError IndexError"
+    "any all divmod pow map next iter ValueError TypeError KeyError IndexError property"
 ).split()
 METHODS = (
     "append clear copy count endswith extend find get index insert isalnum isalpha isdigit islower isspace isupper items "
@@ -41,6 +41,17 @@ def defined(tree):
     return [node.name for node in tree.body if isinstance(node, (ast.FunctionDef, ast.ClassDef))]
 
 
+def constants(tree):
+    return [target.id for node in tree.body if isinstance(node, ast.Assign) for target in node.targets]
+
+
+def nested(tree):
+    """All functions that stand in functions."""
+    functions = [node for node in ast.walk(tree) if isinstance(node, ast.FunctionDef)]
+    return [inner.name for node in functions for inner in ast.walk(node)
+            if isinstance(inner, ast.FunctionDef) and inner is not node]
+
+
 def bound(tree):
     """All names of variables and parameters."""
     names = [node.id for node in ast.walk(tree) if isinstance(node, ast.Name) and isinstance(node.ctx, ast.Store)]
@@ -68,7 +79,7 @@ class LanguageTest(unittest.TestCase):
     def test_functions_are_small(self):
         for name, node in self.nodes(ast.FunctionDef):
             self.assertLessEqual(node.end_lineno - node.lineno + 1, 40, (name, node.name))
-            self.assertEqual(node.decorator_list, [], (name, node.name))
+            self.assertIn([ast.unparse(item) for item in node.decorator_list], ([], ["property"]), (name, node.name))
 
     def test_no_other_statements_and_expressions(self):
         for name, node in self.nodes(NODES):
@@ -98,7 +109,7 @@ class LanguageTest(unittest.TestCase):
                     else:
                         package, module = node.module.split(".")
                         self.assertEqual((package, node.level), ("gapswaps", 0), name)
-                        self.assertLessEqual(set(told), set(defined(self.trees[module])), name)
+                        self.assertLessEqual(set(told), set(defined(self.trees[module]) + constants(self.trees[module])), name)
                         edges[name].append(module)
         # Whatever imports only what is taken away already can be taken away: no two files import from each other.
         while edges:
@@ -131,7 +142,7 @@ class LanguageTest(unittest.TestCase):
     def test_what_is_read_and_called(self):
         methods = [node.name for _, node in self.nodes(ast.FunctionDef)]
         for name, tree in self.trees.items():
-            known = bound(tree) + defined(tree) + BUILTINS
+            known = bound(tree) + defined(tree) + nested(tree) + BUILTINS
             for node in ast.walk(tree):
                 if isinstance(node, ast.ImportFrom):
                     known += [alias.name for alias in node.names]

@@ -4,6 +4,7 @@ import time
 import unittest
 from math import comb, factorial
 
+import plain
 from gapswaps.beginnings import (
     beginnings, both_left, common_beginning, common_going_on, greatest_beginning, how_many_beginnings,
 )
@@ -12,9 +13,10 @@ from gapswaps.classcounts import (
 )
 from gapswaps.deeds import followed, led, left_between, open_places, order_done, row_done
 from gapswaps.endings import both_ahead, greatest_ending, least_ended
-from gapswaps.errors import InvalidNumber, TooMany
+from gapswaps.errors import InvalidNumber, InvalidPairs, TooMany
 from gapswaps.firstlogs import class_number, class_numbered, first_row, is_first, next_class
 from gapswaps.goingson import bar, behind, both_behind, is_bar, least_going_on
+from gapswaps.hall import Hall, is_why_not, places, sure, sure_since, towards, why_not
 from gapswaps.lasts import class_last, how_many_lots, is_lot, most_last, without_last
 from gapswaps.lets import (
     Lets, both, fault, fault_row, first_apart, good, good_sets, good_to, holds_to, how_many_good, is_fault_row, lean,
@@ -22,18 +24,26 @@ from gapswaps.lets import (
 )
 from gapswaps.lines import bounds, marked, marks, pieces
 from gapswaps.middles import implied, is_no_middle, majority, middle, no_middle, round_of
+from gapswaps.nearest import nearest
+from gapswaps.needs import core, fitting, follows, joins_more, least_joining, needed, pair_counts, stretch
 from gapswaps.orders import cut, is_log, is_order, log_of, order_number, order_numbered, order_of, places_of
 from gapswaps.pairs import (
     can_touch, changes, class_counts, farthest, how_many_far, how_many_joined, joined_number, joined_numbered, keeps,
     loose_pairs, next_joined, next_pairs, places_for, sure_pairs,
 )
+from gapswaps.texts import read_sheet, sheet_text, wrong_line
 from gapswaps.travel import (
     class_first, divided, is_stop, is_way, joined, joined_orders, order_way, passed, stop, way, without,
 )
+from gapswaps.trees import Tree, between, chain
 from gapswaps.ways import (
     between_numbered, distance, farthest_two, how_many_between, how_many_between_at, how_many_ways, next_places,
     stands_between, turned_first, unlike_pairs, way_number, way_numbered,
 )
+from gapswaps.wideclasses import first_lots, how_many_wide_classes, how_many_wide_joined, kept_pairs
+from gapswaps.widejoining import is_answer, least_wide_joining, rule_joined, rule_led, rule_places
+from gapswaps.widerules import WideRule, even_above, first_fault, is_even, rule_by_counts, shared
+from gapswaps.wideways import ends, on_way
 from gapswaps.wishes import fewest_deeds, granted, is_wish_ring, most_granted, needed_pairs, wish_ring
 
 SECONDS = 10
@@ -378,6 +388,89 @@ class LimitsTest(unittest.TestCase):
         order = two_lines(6) + [13]
         self.assertEqual(len(implied(ONE, order)), 2 * sum(at * over - 1 for at in range(1, 7) for over in range(1, 7)))
         self.assertEqual(implied(ONE, list(range(13, -1, -1))), [])
+
+    def test_nearest_orders(self):
+        for lines in (SHORT_LINES, LINES):
+            size = len(lines)
+            low, high = farthest_two(ONE, lines)
+            for goal in (low, high, lines):
+                self.assertEqual(nearest(ONE, lines, goal), (0, 1, goal))
+            for goal in (list(range(size)), list(range(size - 1, -1, -1)), order_numbered(size, factorial(size) * 2 // 7)):
+                pairs, many, first = nearest(ONE, lines, goal)
+                self.assertTrue(keeps(ONE, lines, first))
+                self.assertEqual(len(unlike_pairs(first, goal)), pairs)
+                self.assertGreater(many, 0)
+
+    def test_trees_and_rules_of_eight_numbers(self):
+        order, back = list(range(8)), list(range(7, -1, -1))
+        trees = [(chain(8), 6), (Tree([(0, at) for at in range(1, 8)]), 1),
+                 (Tree([(0, 4), (1, 4), (2, 5), (3, 5), (4, 6), (5, 6), (6, 7)]), 3)]
+        for tree, most in trees:
+            self.assertEqual(max(len(between(tree, one, other)) for one in order for other in order), most)
+            whole = WideRule(tree, plain.tree_lets(tree.links()))
+            self.assertEqual(how_many_wide_joined(whole, order), factorial(8))
+            for rule in (whole, WideRule(tree, []), rule_by_counts(tree, ONE), rule_by_counts(tree, MANY),
+                         even_above(WideRule(tree, whole.lets()[::5])), even_above(WideRule(tree, whole.lets()[1::2]))):
+                self.assertTrue(is_even(rule) and first_fault(rule) is None and shared(rule, whole) == rule)
+                found = rule_joined(rule, order, back)
+                self.assertTrue(is_answer(rule, order, back, found))
+                self.assertEqual(len(rule_led(rule, order, found[1])), 8)
+                self.assertEqual(rule_joined(least_wide_joining(rule, order, back), order, back)[0], "joined")
+                self.assertEqual(how_many_wide_joined(rule, order) == factorial(8), kept_pairs(rule, order) == [])
+                self.assertGreaterEqual(how_many_wide_classes(rule, []), 1)
+                self.assertGreaterEqual(len(first_lots(rule, [])), 8)
+                self.assertEqual(len(rule_places(rule, back)) <= 7, True)
+                self.assertEqual(len(on_way(rule, order, 0, 7)[1]), len(between(tree, 0, 7)) + 2)
+
+    def test_needs(self):
+        order, back = list(range(200)), list(range(199, -1, -1))
+        self.assertEqual(len(pair_counts(order, back)), 19900)
+        self.assertEqual(needed(order, back), list(range(199)))
+        self.assertEqual(core(MANY, order, back), (0, 1))
+        self.assertEqual(stretch(back, 1, 199), list(range(198, -1, -1)))
+        low, high = farthest_two(ONE, LINES)
+        self.assertEqual((needed(low, high), core(ONE, low, high)), ([1], None))
+        count = list(range(1, 59))
+        pair = (count + [0, 59], count + [59, 0])
+        self.assertEqual(least_joining([pair] * 20), Lets([58]))
+        self.assertIs(follows([pair] * 20, order, back), False)
+        self.assertEqual(fitting([pair] * 20, [(order[:60], back[140:])] * 20), Lets([58]))
+        found = joins_more(Lets([], 198), Lets([], 199))
+        self.assertEqual([len(order) for order in found], [200, 200])
+        self.assertIs(joined_orders(Lets([], 198), found[0], found[1]), True)
+        self.assertIs(joined_orders(Lets([], 199), found[0], found[1]), False)
+
+    def test_texts(self):
+        rows = [[10 ** 30 - 1 - at for at in range(200)]] * 100
+        for lets in WIDE[:4]:
+            text = sheet_text(lets, rows)
+            self.assertEqual(read_sheet(text), (lets, rows))
+            self.assertIsNone(wrong_line(text))
+            self.assertEqual(wrong_line(text + "#" * 10 ** 5 + "\n" + " " * 10 ** 5 + "x"), 103)
+
+    def test_a_hall_of_forty_people(self):
+        for lets in (ONE, MANY, Lets([], 5)):
+            hall = Hall(lets)
+            hall.together([("enter", at * 7 % (at + 1)) for at in range(40)])
+            loose = [(one, other) for one in range(40) for other in range(40) if one != other and (other, one) not in sure(hall)]
+            for one, other in loose[::1 + len(loose) // 60]:
+                if why_not(hall, one, other) is None:
+                    hall.promise(one, other)
+                else:
+                    self.assertRaises(InvalidPairs, hall.promise, one, other)
+            self.assertTrue(is_why_not(hall, *hall.promises[0][::-1], why_not(hall, *hall.promises[0][::-1])))
+            order, people = hall.order, hall.people
+            goal = led(lets, log_of(order), towards(hall))
+            self.assertTrue(joined_orders(lets, order, order_of(goal)))
+            for person in range(0, 40, 3):
+                self.assertLessEqual(*places(hall, person))
+            first = sure(hall)[0]
+            self.assertLessEqual(sure_since(hall, *first), 40)
+            again = Hall(lets)
+            self.assertEqual((again.together(hall.log()), again), (people, hall))
+            for _ in hall.log():
+                again.undo()
+            self.assertEqual(again.people, [])
 
 
 if __name__ == "__main__":

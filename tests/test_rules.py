@@ -5,7 +5,10 @@ import unittest
 from importlib import import_module
 
 from gapswaps import errors
+from gapswaps.hall import Hall
 from gapswaps.lets import Lets
+from gapswaps.trees import Tree, chain
+from gapswaps.widerules import WideRule, rule_by_counts
 
 BIG = 10 ** 29
 
@@ -16,6 +19,12 @@ def nested(depth):
         thing = [thing]
     return thing
 
+
+THREE, STAR = chain(3), Tree([(0, 1), (0, 2), (0, 3)])
+ONES = rule_by_counts(THREE, Lets([1]))
+BENT = WideRule(THREE, [(0, 1, []), (0, 2, [1]), (1, 2, [])])
+HALL = Hall(Lets([1]))
+HALL.together([("enter", 0), ("enter", 1), ("enter", 0), ("enter", 1), ("enter", 2), ("promise", 3, 1)])
 
 # Some of any value: each is wrong somewhere, and none is right where it is asked for nothing.
 ANY = [None, True, False, "", "a", (), (1, 2), {}, {"a": [1]}, nested(30), [nested(3)], errors.InvalidOrder([0]),
@@ -54,6 +63,29 @@ WRONG = {
         [], 0, ([0],), [0], [[1]], [[0], [0]], [[0], [0], [0, 1]], [[0]] * 101, [[0], None, [0]], [None, [0], [0]], [(0,)], [[0, True]]]),
     "numbers": ("InvalidList", [thing for thing in ANY] + SETS + [1, [0], [1001], [1] * 201, (1,)]),
     "start": ("InvalidNumber", [thing for thing in ANY if thing is not None] + SETS + [0, 1001, [1]]),
+    "links": ("InvalidList", [thing for thing in ANY] + SETS + [
+        0, ((0, 1),), [(1, 0)], [[0, 1]], [(0, 1), (0, 1)], [(1, 2), (0, 1)], [(0, 2)], [(False, 1)], THREE, [(0, 1, 2)],
+        [(0, 1), (2, 3), (2, 3)], [(at, at + 1) for at in range(8)]]),
+    "to 8": ("InvalidNumber", NO_COUNTS + [0, 9, BIG, THREE]),
+    "tree": ("InvalidTree", ANY + SETS + [0, [], [(0, 1)], ONES, HALL]),
+    "tree number": ("InvalidNumber", NO_COUNTS + [3, 4, BIG, THREE]),
+    "items": ("InvalidList", ANY + SETS + [
+        0, ((0, 1, []),), [(1, 0, [])], [[0, 1, []]], [(0, 2, (1,))], [(0, 1, [2])], [(0, 2, [1]), (0, 2, [])], THREE, ONES,
+        [(0, 1, []), (0, 1, [])], [(0, 3, [])], [(0, 2, [True])], [(False, 1, [])], [(0, 1)]]),
+    "rule": ("InvalidRule", ANY + SETS + [0, [], [(0, 1, [])], THREE, HALL]),
+    "even": ("InvalidRule", ANY + SETS + [0, [], [(0, 1, [])], THREE, HALL, BENT]),
+    "alike rule": ("Unlike", [rule_by_counts(STAR, Lets([1])), WideRule(chain(2), []), WideRule(Tree([(0, 1), (0, 2)]), [])]),
+    "tree order": ("InvalidOrder", NO_ORDERS + [[], [0], [0, 1], [0, 1, 2, 3], ONES]),
+    "lot": ("InvalidList", ANY + SETS + [0, (0, 1), [1, 0], [0, 0], [0, 3], [0, True], [[0]], THREE, ONES]),
+    "told pairs": ("InvalidPairs", ANY + SETS + [
+        0, [(0, 1)], [[[0], [0]]], [([0], [0, 1])], [([0], [0], [0])], (([0], [0]),), [([0], [0])] * 21, [([1], [1])],
+        [(list(range(61)), list(range(61)))], [([0], [0]), None], [([0], (0,))]]),
+    "from 1": ("InvalidNumber", NO_COUNTS + [0, 5, BIG]),
+    "sheet rows": ("InvalidList", ANY + SETS + [
+        0, ([0],), [0], [[0], [-1]], [(0,)], [[]] * 101, [[10 ** 30]], [[True]], [[0] * 201]]),
+    "lines": ("InvalidLines", [thing for thing in ANY if not isinstance(thing, str)] + SETS + [0, ["lets"], ("lets",)]),
+    "text": ("InvalidLines", ANY + SETS + [0, ["lets"], "lets 0", "row", "lets\nlets", "lets 01", "lets\t", "# lets"]),
+    "hall": ("InvalidHall", ANY + SETS + [0, [], THREE, ONES, Hall]),
 }
 
 ONE, FAR, OTHER = Lets([1]), [3, 4, 0, 1, 2], [3, 0, 1, 2, 4]
@@ -64,6 +96,7 @@ ENDS = [("good", ONE), ("row", [1, 3]), ("row", [2])]
 BARRED = [("good", ONE), ("row", [2, 0]), ("row", [3])]
 NO_MIDDLE = [[1, 3, 0, 2, 4], [1, 3, 2, 4, 0], [1, 3, 4, 0, 2]]
 WISHES = PAIRS + [("wishes", [(0, 4), (1, 4), (3, 0)])]
+WIDE = [("even", ONES), ("tree order", [1, 0, 2]), ("tree order", [1, 2, 0])]
 
 # For each function: its module, its arguments, and, in the order in which they are looked at, what they have to be and
 # one that is right. The kinds "alike" and "joined" look at the argument ahead again; "value" may be anything.
@@ -181,6 +214,50 @@ CALLS = [
     ("middles", "no_middle", "lets", [("good", Lets([], 1))]),
     ("middles", "is_no_middle", "lets value", [("good", Lets([], 1)), ("value", NO_MIDDLE)]),
     ("middles", "implied", "lets order", [("lean", ONE), ("order", FAR)]),
+    ("nearest", "nearest", "lets order goal", [("lean", ONE), ("order", FAR), ("order", OTHER), ("alike order", OTHER)]),
+    ("trees", "Tree", "links", [("links", [(0, 1), (1, 2)])]),
+    ("trees", "chain", "size", [("to 8", 3)]),
+    ("trees", "between", "tree one other", [("tree", THREE), ("tree number", 2), ("tree number", 0)]),
+    ("widerules", "WideRule", "tree items", [("tree", THREE), ("items", [(0, 1, []), (0, 2, [1])])]),
+    ("widerules", "rule_by_counts", "tree lets", [("tree", THREE), ("lets", Lets([1, 3]))]),
+    ("widerules", "shared", "one other", [("rule", BENT), ("rule", ONES), ("alike rule", ONES)]),
+    ("widerules", "is_even", "rule", [("rule", BENT)]),
+    ("widerules", "first_fault", "rule", [("rule", BENT)]),
+    ("widerules", "even_above", "rule", [("rule", BENT)]),
+    ("widejoining", "rule_places", "rule order", [("rule", BENT), ("tree order", [1, 0, 2])]),
+    ("widejoining", "rule_led", "rule order places", [("rule", BENT), ("tree order", [1, 0, 2]), ("list", [1, 0])]),
+    ("widejoining", "rule_joined", "rule one other", WIDE),
+    ("widejoining", "is_answer", "rule one other value", WIDE + [("value", ("joined", [1]))]),
+    ("widejoining", "least_wide_joining", "rule one other", WIDE),
+    ("wideways", "ends", "tree", [("tree", STAR)]),
+    ("wideways", "on_way", "rule order one other", [
+        ("rule", BENT), ("tree order", [1, 0, 2]), ("tree number", 2), ("tree number", 0)]),
+    ("wideclasses", "kept_pairs", "rule order", WIDE[:2]),
+    ("wideclasses", "how_many_wide_joined", "rule order", WIDE[:2]),
+    ("wideclasses", "first_lots", "rule lot", [("even", ONES), ("lot", [1])]),
+    ("wideclasses", "how_many_wide_classes", "rule lot", [("even", ONES), ("lot", [1])]),
+    ("needs", "pair_counts", "one other", [("order", FAR), ("order", OTHER), ("alike order", OTHER)]),
+    ("needs", "needed", "one other", [("order", FAR), ("order", OTHER), ("alike order", OTHER)]),
+    ("needs", "least_joining", "pairs", [("told pairs", [(FAR, OTHER)])]),
+    ("needs", "follows", "pairs one other", [
+        ("told pairs", [(FAR, OTHER)]), ("order", FAR), ("order", OTHER), ("alike order", OTHER)]),
+    ("needs", "fitting", "joined parted", [("told pairs", [(FAR, OTHER)]), ("told pairs", [([0, 1], [1, 0])])]),
+    ("needs", "joins_more", "one other", [("good", Lets([], 1)), ("good", ONE)]),
+    ("needs", "stretch", "order low high", [("order", FAR), ("number", 1), ("from 1", 3)]),
+    ("needs", "core", "lets one other", [("good", ONE), ("order", [0, 1]), ("order", [1, 0]), ("alike order", OTHER)]),
+    ("texts", "sheet_text", "lets rows", [("lets", ONE), ("sheet rows", [[0, 3], []])]),
+    ("texts", "read_sheet", "text", [("text", "lets 1\nrow 0 3\nrow\n")]),
+    ("texts", "wrong_line", "text", [("lines", "lets 1\nrow 1 -1\n")]),
+    ("hall", "Hall", "lets", [("good", ONE)]),
+    ("hall", "sure", "hall", [("hall", HALL)]),
+    ("hall", "towards", "hall", [("hall", HALL)]),
+    ("hall", "places", "hall person", [("hall", HALL), ("number", 1)]),
+]
+# Here the field holds the tuple of both people instead of an argument; test_hall looks at it.
+PEOPLE = [
+    ("hall", "why_not", "hall one other", [HALL, 1, 2]),
+    ("hall", "is_why_not", "hall one other value", [HALL, 1, 2, [2, 3, 1]]),
+    ("hall", "sure_since", "hall one other", [HALL, 0, 1]),
 ]
 ERRORS = ("GapError InvalidNumber InvalidOrder InvalidRow InvalidLets InvalidList InvalidPlace InvalidPairs InvalidRule "
           "InvalidTree InvalidLines InvalidDeed InvalidFlag InvalidHall Unlike TooMany NothingToUndo NothingToRedo").split()
@@ -202,9 +279,28 @@ def shown(thing):
     """What a thing is, all kinds in it told, too."""
     if isinstance(thing, Lets):
         return ("Lets", thing.numbers(), thing.start())
+    if isinstance(thing, Tree):
+        return ("Tree", shown(thing.links()))
+    if isinstance(thing, WideRule):
+        return ("WideRule", shown(thing.tree()), shown(thing.lets()))
+    if isinstance(thing, Hall):
+        return ("Hall", shown(thing.order), shown(thing.people), shown(thing.promises), shown(thing.log()))
     if isinstance(thing, (list, tuple)):
         return (thing.__class__.__name__, [shown(item) for item in thing])
     return (thing.__class__.__name__, repr(thing))
+
+
+def opened(thing):
+    """The lists that an object hands out, all else as it is."""
+    if isinstance(thing, Lets):
+        return [thing.numbers()]
+    if isinstance(thing, Tree):
+        return [thing.links()]
+    if isinstance(thing, WideRule):
+        return [thing.tree().links(), thing.lets()]
+    if isinstance(thing, Hall):
+        return [thing.order, thing.people, thing.promises, thing.log()]
+    return thing
 
 
 def lists_in(thing):
@@ -230,6 +326,10 @@ class NamesTest(unittest.TestCase):
     def test_methods_stand_in_their_class(self):
         for name in ("__init__", "numbers", "start", "__contains__", "__eq__"):
             self.assertIn(name, vars(Lets))
+        for name in ("__init__", "size", "links", "__eq__"):
+            self.assertIn(name, vars(Tree))
+        for name in ("__init__", "tree", "lets", "__eq__"):
+            self.assertIn(name, vars(WideRule))
         self.assertEqual(list(inspect.signature(Lets).parameters.values())[1].default, None)
 
     def test_arguments_by_name(self):
@@ -237,6 +337,17 @@ class NamesTest(unittest.TestCase):
             by_name = dict(zip(arguments.split(), right_arguments(kinds)))
             thing = called(module, name)
             self.assertEqual(shown(thing(**by_name)), shown(thing(*right_arguments(kinds))), name)
+
+
+    def test_what_asks_for_two_people(self):
+        for module, name, arguments, right in PEOPLE:
+            thing = called(module, name)
+            self.assertEqual((thing.__module__, list(inspect.signature(thing).parameters)),
+                             (f"gapswaps.{module}", arguments.split()))
+            before = [shown(item) for item in right]
+            one, other = thing(*right), thing(**dict(zip(arguments.split(), right)))
+            self.assertEqual((shown(one), [shown(item) for item in right]), (shown(other), before))
+            self.assertFalse({id(item) for item in lists_in(one)} & {id(item) for item in lists_in(other)})
 
 
 class WrongArgumentsTest(unittest.TestCase):
@@ -284,8 +395,7 @@ class ListsTest(unittest.TestCase):
             one = called(module, name)(*arguments)
             other = called(module, name)(*arguments)
             self.assertEqual(shown(one), shown(other), name)
-            if name == "Lets":
-                one, other = [one.numbers()], [other.numbers()]
+            one, other = opened(one), opened(other)
             ids = [id(item) for item in lists_in(one) + lists_in(other)]
             self.assertEqual(len(ids), len(set(ids)), name)
             self.assertFalse(set(ids) & set(id(item) for item in lists_in(arguments)), name)
@@ -295,10 +405,11 @@ class ListsTest(unittest.TestCase):
             arguments = right_arguments(kinds)
             before = shown(called(module, name)(*arguments))
             found = called(module, name)(*arguments)
-            for item in lists_in(found):
+            for item in lists_in(found) + lists_in(opened(found)):
                 item.append("changed")
-            if name != "Lets":
-                self.assertEqual(shown(called(module, name)(*arguments)), before, name)
+            if opened(found) is not found:
+                self.assertEqual(shown(found), before, name)
+            self.assertEqual(shown(called(module, name)(*arguments)), before, name)
 
     def test_kinds_of_what_is_returned(self):
         """No dict, set or float anywhere, and bool where something is told to be so or not."""
@@ -307,7 +418,8 @@ class ListsTest(unittest.TestCase):
             self.assertFalse(any(f"('{kind}'" in told for kind in ("dict", "set", "float", "frozenset", "range")), name)
         for name in ("is_order", "is_row", "is_log", "good", "lean", "good_to", "is_fault_row", "within", "joined",
                      "is_way", "is_stop", "joined_orders", "stands_between", "turned_first", "keeps", "can_touch",
-                     "is_wish_ring", "is_lot", "is_lone", "is_first", "is_bar", "is_no_middle"):
+                     "is_wish_ring", "is_lot", "is_lone", "is_first", "is_bar", "is_no_middle", "is_even", "is_answer",
+                     "follows"):
             module, kinds = [(module, kinds) for module, other, _, kinds in CALLS if other == name][0]
             self.assertIsInstance(called(module, name)(*right_arguments(kinds)), bool, name)
 

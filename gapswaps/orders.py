@@ -2,7 +2,7 @@
 
 from math import factorial
 
-from gapswaps.errors import InvalidNumber, InvalidOrder, InvalidRow
+from gapswaps.errors import InvalidNumber, InvalidOrder, InvalidRow, Unlike
 
 LONGEST = 200
 
@@ -44,6 +44,14 @@ def need_order(order):
     """Refuse what is no order."""
     if not is_order(order):
         raise InvalidOrder(order)
+
+
+def need_orders_alike(one, other):
+    """Refuse what are no two orders, and then what are none of one length."""
+    need_order(one)
+    need_order(other)
+    if len(one) != len(other):
+        raise Unlike(other)
 
 
 def need_row(row):

@@ -12,7 +12,7 @@ def _are_rows(value):
     """Return whether a value is a list of rows that a sheet may have."""
     if not isinstance(value, list) or len(value) > MOST_ROWS or not all([is_row(row) for row in value]):
         return False
-    return all([item < 10 ** MOST_FIGURES for row in value for item in row])
+    return all([item < 10 ** 30 for row in value for item in row])
 
 
 def _words(first, numbers):

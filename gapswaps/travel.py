@@ -3,7 +3,7 @@
 from gapswaps.deeds import deeds_done
 from gapswaps.errors import Unlike
 from gapswaps.lets import need_good
-from gapswaps.orders import is_count, log_of, need_count, need_order, need_row
+from gapswaps.orders import is_count, log_of, need_count, need_orders_alike, need_row
 
 
 def _journey(lets, row, item):
@@ -164,8 +164,5 @@ def joined_orders(lets, one, other):
 def order_way(lets, one, other):
     """Return as few places as can be at which let deeds lead from one order to another one, None if nothing does."""
     need_good(lets)
-    need_order(one)
-    need_order(other)
-    if len(one) != len(other):
-        raise Unlike(other)
+    need_orders_alike(one, other)
     return _whole_road(lets, log_of(one), log_of(other))

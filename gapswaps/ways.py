@@ -3,7 +3,7 @@
 from gapswaps.errors import InvalidNumber, InvalidPairs, Unlike
 from gapswaps.lines import bounds, marked
 from gapswaps.masks import ahead_masks, how_many_at, how_many_keep, is_kept, numbered_among, picked
-from gapswaps.orders import is_count, is_order, need_count, need_order, places_of
+from gapswaps.orders import is_count, is_order, need_count, need_orders_alike, places_of
 from gapswaps.travel import joined_orders
 
 
@@ -20,10 +20,7 @@ def _unlike(one, other):
 
 def unlike_pairs(one, other):
     """Return the list of the pairs of two orders that stand otherwise in both."""
-    need_order(one)
-    need_order(other)
-    if len(one) != len(other):
-        raise Unlike(other)
+    need_orders_alike(one, other)
     return _unlike(one, other)
 
 

@@ -49,10 +49,14 @@ def _all_change(rule, ahead, part):
     return all([rule.allows(low, high, ahead) for at, high in enumerate(numbers) for low in numbers[:at]])
 
 
+def _whole(rule):
+    """Return the mask of all numbers of the tree of a rule."""
+    return (1 << rule.tree().size()) - 1
+
+
 def _parts_behind(rule, ahead):
     """Return the masks of one or more numbers not among some, each two of which may change places behind just these."""
-    whole = (1 << rule.tree().size()) - 1
-    return [part for part in parts_of(whole & ~ahead) if part and _all_change(rule, ahead, part)]
+    return [part for part in parts_of(_whole(rule) & ~ahead) if part and _all_change(rule, ahead, part)]
 
 
 def first_lots(rule, lot):
@@ -64,12 +68,13 @@ def first_lots(rule, lot):
 def how_many_wide_classes(rule, lot):
     """Return into how many classes the orders that begin with a lot fall if deeds are done only behind it."""
     _need(rule, lot)
-    counts = {(1 << rule.tree().size()) - 1: 1}
-    # Greater masks first: each count is made of those for masks with more numbers.
     begun = mask_of(lot)
-    for ahead in reversed(parts_of(((1 << rule.tree().size()) - 1) & ~begun)):
+    whole = _whole(rule)
+    counts = {whole: 1}
+    # Greater masks first: each count is made of those for masks with more numbers.
+    for ahead in reversed(parts_of(whole & ~begun)):
         mask = ahead | begun
-        if mask not in counts:
+        if mask != whole:
             signed = [(1 if ones(part) & 1 else -1, mask | part) for part in _parts_behind(rule, mask)]
             counts[mask] = sum([sign * counts[more] for sign, more in signed])
     return counts[begun]

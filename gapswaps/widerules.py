@@ -36,6 +36,7 @@ class WideRule:
         if not _are_lets(tree, items):
             raise InvalidList(items)
         self._tree = tree
+        # In the order of the items, in which lets returns them.
         self._table = {(low, high, mask_of(lot)): True for low, high, lot in items}
 
     def tree(self):
@@ -44,7 +45,7 @@ class WideRule:
 
     def lets(self):
         """Return the lets, in order."""
-        return sorted([(low, high, numbers_in(mask)) for low, high, mask in self._table])
+        return [(low, high, numbers_in(mask)) for low, high, mask in self._table]
 
     def allows(self, one, other, ahead):
         """Return whether two numbers may change places where just the numbers of a mask stand left of both."""

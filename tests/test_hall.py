@@ -348,6 +348,9 @@ class CopyTest(unittest.TestCase):
         self.assertEqual((state(copy), copy), (state(hall), hall))
         copy.redo()
         self.assertEqual((copy.people, hall.people), ([0, 2, 1, 3, 4], [0, 1, 2, 3, 4]))
+        hall.redo()
+        self.assertEqual(hall.people, [0, 2, 1, 3, 4])
+        hall.undo()
         hall.release(3, 1)
         self.assertEqual((copy.promises, hall.promises), ([(3, 1)], []))
         self.assertRaises(NothingToRedo, hall.redo)
@@ -440,7 +443,7 @@ class ByAllOrdersTest(unittest.TestCase):
         hall = Hall(Lets([1]))
         hall.together(FIVE + [("promise", 3, 1)])
         self.assertIs(is_why_not(hall, 1, 2, [2, 3, 1]), True)
-        for value in (None, True, 2, (2, 3, 1), [2, 3], [3, 1], [2, 1], [2, 3, True], [2, 3, 1, 1], [2, 9, 1], [2, -1, 1],
+        for value in (None, True, 2, (2, 3, 1), [2, 3], [3, 1], [2, 1], [2, 3, True], [2, 3, 1, 1], [2, 9, 1], [2, 5, 1], [2, -1, 1],
                       [2, [3], 1], [BIG, 1], "231", hall, [], [2], [1], {}, [2, 3, 4, 1], [None] * 3):
             self.assertIs(is_why_not(hall, 1, 2, value), False)
 

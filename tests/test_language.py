@@ -84,6 +84,9 @@ class LanguageTest(unittest.TestCase):
     def test_no_other_statements_and_expressions(self):
         for name, node in self.nodes(NODES):
             self.fail(f"{name}, line {node.lineno if hasattr(node, 'lineno') else 0}: {node.__class__.__name__}")
+        for name, node in self.nodes(ast.BinOp):
+            if isinstance(node.op, ast.Pow):
+                self.assertIsInstance(node.right, ast.Constant, (name, node.lineno))
         for name, node in self.nodes(ast.Constant):
             self.assertIn(node.value.__class__.__name__, ("int", "str", "bool", "NoneType"), (name, node.lineno))
             self.assertFalse(isinstance(node.value, str) and "%" in node.value, (name, node.lineno))

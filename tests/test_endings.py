@@ -1,12 +1,14 @@
 """[37] From behind."""
 
 import unittest
+from itertools import permutations
 
 import plain
 from gapswaps.endings import both_ahead, greatest_ending, least_ended
 from gapswaps.errors import InvalidLets, InvalidRow
 from gapswaps.firstlogs import first_row
 from gapswaps.lets import Lets
+from gapswaps.travel import joined
 
 BIG = 10 ** 29
 
@@ -52,6 +54,23 @@ class AheadTest(unittest.TestCase):
                     self.assertEqual(len(whole), least)
                     self.assertEqual(whole[len(found[0]):], one)
                     self.assertIn(tuple(whole), plain.classed(told, found[0] + one))
+
+    def test_the_least_of_three_whichever_two_are_taken_first(self):
+        """Where this holds for all three counts, the table finds the least rows for longer rows, too."""
+        met = 0
+        for told in plain.GOOD:
+            lets = Lets(*told)
+            for high in range(12):
+                for middle in range(high + 1):
+                    wholes = []
+                    for one, other, last in permutations((0, middle, high)):
+                        both = least_ended(lets, [one], [other])
+                        wholes.append(None if both is None else least_ended(lets, both, [last]))
+                    self.assertEqual(wholes.count(None) % 6, 0)
+                    if wholes[0] is not None:
+                        met += 1
+                        self.assertTrue(all(joined(lets, wholes[0], whole) for whole in wholes))
+        self.assertGreater(met, 200)
 
     def test_the_least_ends_each_that_both_end(self):
         met = 0
